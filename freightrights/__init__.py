@@ -1,0 +1,1 @@
+"""Freightrights: freight of one good on a line net, and who has a right to it."""

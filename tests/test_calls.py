@@ -1,0 +1,131 @@
+"""How functions are called: lists for tuples, names for places, arguments unchanged, new lists, the same result again."""
+
+import copy
+import importlib
+import inspect
+import unittest
+
+from helpers import as_lists
+from test_interface import INTERFACE, listed
+
+NET = (3, (("a", 1), ("b", 0)), (("x", "a", "b", 1, 4), ("y", "a", "b", 0, 1)), (("m", "b", (1, 2)), ("n", "a", (0, 2))))
+GOODS = (("a", 0, 5), ("b", 2, 1))
+PLAN = ((("x", 0, 3),), (("m", 1, 2), ("n", 0, 1)))
+FAR = (("a", 2), ("b", 1), ("b", 2))
+
+WORTHS = {
+    "net": NET, "arrivals": GOODS, "plan": PLAN, "far": FAR, "yard": "a", "line": "x", "customer": "m", "hour": 1,
+    "customers": ("m", "n"), "room": 3, "most": 2, "start": "b", "goal": "a", "late": 1, "hours": (0, 2), "names": ("b", "a"),
+    "numbers": (3, 0), "some": ("m",), "taking": (2, 1), "wishes": (3, 1), "rank": ("n", "m"), "one": ("m",), "other": ("n",),
+    "name": "n", "later": (("a", 0, 4),), "sets": ((), ("n",), ("m", "n")),
+}
+SPECIAL = {
+    ("with_line", "line"): "z", ("with_customer", "customer"): "o", ("lost_between", "one"): FAR, ("lost_between", "other"): (("a", 0),),
+    ("can_give", "one"): "m", ("can_give", "other"): "n", ("same_covers", "other"): NET,
+    ("net_from", "text"): "hours 2; yard a 1; yard b 0; line x a b 1 2; customer m b 0 1; customer n a",
+    ("names_from", "text"): "b a", ("numbers_from", "text"): "3 0", ("arrivals_from", "text"): "a 0 3; b 1 2",
+}
+THINGS = {
+    "is_net": NET, "is_arrivals": GOODS, "is_taking": (1, 2), "is_plan": PLAN, "is_plan_for": PLAN,
+    "is_leaner": ((("x", 0, 2),), PLAN[1]), "is_cut": FAR, "is_narrowest": (("a", 1), ("a", 2), ("b", 1), ("b", 2)),
+    "is_cover_plan": ((("x", 0, 4), ("y", 2, 1)), (("m", 1, 4), ("m", 2, 2))), "is_full_chain": ((),),
+    "is_full_paper": (), "is_loose_paper": ((("x", 0, 3),), (("m", 1, 3),)),
+}
+
+
+def calls():
+    """For each function of the interface its name, itself, and its arguments by name."""
+    for place, text in INTERFACE.items():
+        module = importlib.import_module("freightrights." + place)
+        for name, parameters in listed(text):
+            told = {}
+            for parameter in parameters:
+                if parameter == "thing":
+                    told[parameter] = THINGS[name]
+                else:
+                    told[parameter] = SPECIAL.get((name, parameter), WORTHS.get(parameter))
+            if name == "is_full_paper":
+                told["some"] = ()
+            yield name, getattr(module, name), told
+
+
+def in_lists(told, half=False):
+    """The arguments with lists for tuples; things stay what they are. Half: only inside of tuples."""
+    found = {}
+    for key, worth in told.items():
+        if key == "thing" or not isinstance(worth, tuple):
+            found[key] = worth
+        else:
+            found[key] = tuple(as_lists(part) for part in worth) if half else as_lists(worth)
+    return found
+
+
+def has_list(answer):
+    if isinstance(answer, list):
+        return True
+    return isinstance(answer, tuple) and any(has_list(part) for part in answer)
+
+
+class Calls(unittest.TestCase):
+    def test_by_place_and_by_name(self):
+        for name, call, told in calls():
+            with self.subTest(name=name):
+                answer = call(*told.values())
+                self.assertEqual(list(inspect.signature(call).parameters), list(told))
+                self.assertEqual(repr(call(**told)), repr(answer))
+                self.assertEqual(repr(call(**dict(reversed(list(told.items()))))), repr(answer))
+                if name.startswith("is_"):
+                    self.assertIs(answer, name != "is_whole" and name != "is_full")
+
+    def test_lists_for_tuples(self):
+        for name, call, told in calls():
+            with self.subTest(name=name):
+                answer = call(**told)
+                for other in (in_lists(told), in_lists(told, True)):
+                    self.assertEqual(repr(call(**other)), repr(answer))
+
+    def test_arguments_unchanged(self):
+        for name, call, told in calls():
+            for other in (told, in_lists(told), in_lists(told, True)):
+                kept = copy.deepcopy(other)
+                call(**other)
+                self.assertEqual(repr(other), repr(kept), name)
+
+    def test_the_same_again(self):
+        for name, call, told in calls():
+            first = call(**told)
+            for _, other, rest in list(calls())[::9]:
+                other(**rest)
+            self.assertEqual(repr(call(**told)), repr(first), name)
+
+    def test_lists_are_answered_where_they_are_told(self):
+        for name, call, told in calls():
+            answer = call(**told)
+            if name in ("narrowest_cuts", "all_takings", "full_sets"):
+                self.assertIsInstance(answer, list)
+                kept = list(answer)
+                answer.append("more")
+                self.assertEqual(call(**told), kept)
+                answer = tuple(kept)
+            self.assertFalse(has_list(answer), name)
+
+    def test_answers_do_not_hang_together(self):
+        for name, call, told in calls():
+            other = in_lists(told)
+            answer = call(**other)
+            kept = repr(answer)
+            for worth in other.values():
+                if isinstance(worth, list):
+                    worth.clear()
+            self.assertEqual(repr(answer), kept, name)
+
+    def test_truths_are_truths(self):
+        for name, call, told in calls():
+            if "thing" in told or name in ("can_be", "is_whole", "are_apart", "same_covers", "can_give", "always_full", "both_full"):
+                self.assertIsInstance(call(**told), bool, name)
+                if "thing" in told:
+                    self.assertIs(call(**dict(told, thing=as_lists(told["thing"]))), False, name)
+
+
+if __name__ == "__main__":
+    unittest.main()

@@ -1,0 +1,123 @@
+"""The names of the interface: where they are defined, with which parameters; the error classes."""
+
+import ast
+import importlib
+import inspect
+import os
+import unittest
+
+from freightrights import errors
+
+ROOT = os.path.dirname(os.path.dirname(os.path.abspath(__file__)))
+
+ERRORS = {
+    "AllKnown": (), "BadAnswer": ("answer",), "BadLine": ("number",), "BadText": ("piece",), "CanNot": (),
+    "Known": ("name",), "NoCustomer": ("name",), "NoLine": ("name",), "NoNet": ("name",), "NoNumber": ("number",),
+    "NoYard": ("name",), "NotNet": (), "NothingDone": (), "OtherCustomers": (),
+}
+
+INTERFACE = {
+    "nets": """is_net(thing), is_arrivals(net, thing), is_taking(net, thing), yard_names(net), line_names(net),
+        customer_names(net), room_of(net, yard), line_of(net, line), place_of(net, customer), spots(net),
+        spots_of(net, customers), reached_spots(net, yard, hour), customers_reached(net, yard, hour),
+        arrives(arrivals, yard, hour), with_room(net, yard, room), with_most(net, line, most),
+        with_line(net, line, start, goal, late, most), without_line(net, line),
+        with_customer(net, customer, yard, hours), without_customer(net, customer), net_text(net), net_from(text)""",
+    "texts": """names_text(names), numbers_text(numbers), arrivals_text(arrivals), names_from(text), numbers_from(text),
+        arrivals_from(text)""",
+    "plans": """is_plan(net, arrivals, thing), taking_of(net, plan), there(net, arrivals, plan, yard, hour),
+        left(net, arrivals, plan, yard, hour), lying(net, arrivals, plan), given_back(net, arrivals, plan),
+        plan_for(net, arrivals, taking), is_plan_for(net, arrivals, taking, thing),
+        to_spare(net, arrivals, plan, yard, hour), idle_moves(net, arrivals, plan), leaner(net, arrivals, plan),
+        is_leaner(net, arrivals, plan, thing)""",
+    "cuts": """is_cut(net, some, thing), cut_pieces(net, arrivals, far), cut_value(net, arrivals, far),
+        least_cut(net, arrivals, some), widest_cut(net, arrivals, some), is_narrowest(net, arrivals, some, thing),
+        narrowest_cuts(net, arrivals, some), how_many_narrowest(net, arrivals, some),
+        felt_pieces(net, arrivals, some), wanted_pieces(net, arrivals, some), chain_of_cuts(net, arrivals, rank),
+        lost_between(net, one, other)""",
+    "covers": """cover(net, arrivals, some), covers(net, arrivals), whole(net, arrivals),
+        gain(net, arrivals, some, name), can_be(net, arrivals, taking), room_beside(net, arrivals, taking, name),
+        over_set(net, arrivals, taking), is_whole(net, arrivals, taking), cover_plan(net, arrivals, some),
+        is_cover_plan(net, arrivals, some, thing), wished_cover(net, arrivals, wishes, some),
+        wished_covers(net, arrivals, wishes), are_apart(net, arrivals, one, other),
+        same_covers(net, arrivals, other, later), all_takings(net, arrivals), how_many_takings(net, arrivals)""",
+    "fulls": """is_full(net, arrivals, taking, some), full_sets(net, arrivals, taking),
+        how_many_full(net, arrivals, taking), greatest_full(net, arrivals, taking),
+        least_full(net, arrivals, taking, customer), can_get(net, arrivals, taking),
+        givers(net, arrivals, taking, customer), getters(net, arrivals, taking, customer),
+        can_give(net, arrivals, taking, one, other), knots(net, arrivals, taking), full_chain(net, arrivals, taking),
+        is_full_chain(net, arrivals, taking, thing), full_paper(net, arrivals, taking, some),
+        is_full_paper(net, arrivals, taking, some, thing), loose_paper(net, arrivals, taking, some),
+        is_loose_paper(net, arrivals, taking, some, thing), always_full(net, arrivals, some),
+        both_full(net, arrivals, one, other), chain_taking(net, arrivals, sets)""",
+}
+
+
+def listed(text):
+    """The pairs of a name and its parameters."""
+    rows = []
+    for part in text.replace("\n", " ").split("),"):
+        name, _, rest = part.strip().rstrip(")").partition("(")
+        rows.append((name, [word.strip() for word in rest.split(",")]))
+    return rows
+
+
+class Interface(unittest.TestCase):
+    def test_functions(self):
+        for place, text in INTERFACE.items():
+            module = importlib.import_module("freightrights." + place)
+            with open(os.path.join(ROOT, "freightrights", place + ".py")) as file:
+                defined = {node.name for node in ast.parse(file.read()).body if isinstance(node, ast.FunctionDef)}
+            for name, parameters in listed(text):
+                with self.subTest(name=name):
+                    self.assertIn(name, defined)
+                    found = inspect.signature(getattr(module, name)).parameters
+                    self.assertEqual(list(found), parameters)
+                    for part in found.values():
+                        self.assertEqual(part.kind, part.POSITIONAL_OR_KEYWORD)
+                        self.assertIs(part.default, part.empty)
+
+    def test_number_of_functions(self):
+        many = {place: len(listed(text)) for place, text in INTERFACE.items()}
+        self.assertEqual(many, {"nets": 22, "texts": 6, "plans": 12, "cuts": 12, "covers": 16, "fulls": 19})
+
+
+class Errors(unittest.TestCase):
+    def test_classes(self):
+        self.assertEqual(errors.FreightError.__bases__, (ValueError,))
+        with open(os.path.join(ROOT, "freightrights", "errors.py")) as file:
+            defined = {node.name for node in ast.parse(file.read()).body if isinstance(node, ast.ClassDef)}
+        self.assertEqual(defined, set(ERRORS) | {"FreightError"})
+        for name in ERRORS:
+            self.assertEqual(getattr(errors, name).__bases__, (errors.FreightError,), name)
+
+    def test_values(self):
+        for name, kept in ERRORS.items():
+            for worth in ("x", 3, None, (1, 2)):
+                if kept:
+                    found = [getattr(errors, name)(worth), getattr(errors, name)(**{kept[0]: worth})]
+                    for error in found:
+                        self.assertEqual(vars(error), {kept[0]: worth})
+
+    def test_too_many_or_too_few(self):
+        for name, kept in ERRORS.items():
+            with self.assertRaises(TypeError, msg=name):
+                getattr(errors, name)(*["x"] * (len(kept) + 1))
+            with self.assertRaises(TypeError, msg=name):
+                getattr(errors, name)(other="x")
+            if kept:
+                with self.assertRaises(TypeError, msg=name):
+                    getattr(errors, name)()
+            else:
+                self.assertEqual(vars(getattr(errors, name)()), {})
+
+    def test_raised_and_caught(self):
+        for name, kept in ERRORS.items():
+            with self.assertRaises(ValueError) as caught:
+                raise getattr(errors, name)(*["q"] * len(kept))
+            self.assertIsInstance(caught.exception, errors.FreightError)
+            self.assertIsInstance(str(caught.exception), str)
+
+
+if __name__ == "__main__":
+    unittest.main()
