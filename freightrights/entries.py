@@ -1,6 +1,6 @@
 """The entries of a NET, one by one and all together: whether they are such as a NET has."""
 
-from freightrights.shapes import climbs, is_from, is_name, is_number, is_row, is_set_of_hours
+from freightrights.shapes import climbs, is_from, is_name, is_row, is_set_of_hours
 
 
 def is_yard(thing):
@@ -107,4 +107,4 @@ def is_goods_row(thing):
     """Whether thing is a yard, an hour and an amount as in ARRIVALS of some NET."""
     if not (is_row(thing, 3) and is_name(thing[0])):
         return False
-    return is_number(thing[1]) and is_from(thing[2], 1)
+    return is_from(thing[1], 0) and is_from(thing[2], 1)

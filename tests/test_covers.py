@@ -130,6 +130,9 @@ class Takings(unittest.TestCase):
         for taking, some in (((2, 2, 2), ("m", "n")), ((1, 2, 2), ("n", "o")), ((2, 1, 2), ("m", "o")), ((1, 1, 2), ("m", "n", "o")),
                              ((0, 4, 4), ("n",)), ((1, 1, 1), None), ((5, 0, 4), ("m",)), ((0, 1, 3), ("n", "o"))):
             self.assertEqual(over_set(net, rows, taking), some)
+        four = (1, (("a", 0), ("b", 0)), (), (("m", "a", (0,)), ("n", "b", (0,)), ("o", "b", (0,)), ("p", "a", (0,))))
+        self.assertEqual(over_set(four, (("a", 0, 2), ("b", 0, 2)), (2, 1, 2, 1)), ("m", "p"))
+        self.assertEqual(over_set(four, (("a", 0, 2), ("b", 0, 2)), (1, 1, 2, 1)), ("n", "o"))
 
     def test_one_by_one(self):
         asked = 0

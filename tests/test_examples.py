@@ -1,6 +1,8 @@
 """The examples of the document, word for word."""
 
+import doctest
 import importlib
+import os
 import re
 import unittest
 
@@ -125,6 +127,11 @@ class Examples(unittest.TestCase):
                 self.assertEqual(repr(eval(source, names)), answer, source)
                 asked += 1
         self.assertGreater(asked, 2)
+
+    def test_readme(self):
+        readme = os.path.join(os.path.dirname(os.path.dirname(os.path.abspath(__file__))), "README.md")
+        failed, asked = doctest.testfile(readme, module_relative=False)
+        self.assertEqual((failed, asked > 4), (0, True))
 
     def test_nets(self):
         self.check_rows(NETS)

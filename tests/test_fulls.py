@@ -112,6 +112,10 @@ class Fulls(unittest.TestCase):
         for chain in (((), ("m", "n")), ((), ("m",), ("n",), ("m", "n")), ((), ("m",)), (("m",), ("m", "n")), ((), ("n", "m")),
                       ((), ("m",), ("n", "m")), ((), ("m",), ("m",), ("m", "n")), ((),), (), ((), ["m"], ("m", "n")), ((), ("z",), ("m", "n"))):
             self.assertIs(is_full_chain(net, rows, (1, 2), chain), False, chain)
+        for thing in STRANGE:
+            self.assertIs(is_full_chain(net, rows, (1, 2), ((), thing)), False)
+            self.assertIs(is_full_chain(net, rows, (1, 2), ((), thing, ("m", "n"))), False)
+            self.assertIs(is_full_chain(net, rows, (1, 2), (thing, ("m",), ("m", "n"))), thing == () and isinstance(thing, tuple))
         self.assertIs(is_full_chain(net, rows, (0, 1), ((),)), True)
         for thing in STRANGE:
             self.assertIs(is_full_chain(net, rows, (0, 1), thing), thing == ((),) and isinstance(thing, tuple))

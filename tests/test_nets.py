@@ -37,6 +37,16 @@ class IsNet(unittest.TestCase):
                       ((1, 0),), ((None, 0),), "a", None, 0, ("a", 0), (("a", "0"),), (("a\n", 0),), (("_", 0),)):
             self.assertIs(is_net((3, yards, (), ())), False, yards)
 
+    def test_one_wrong_of_two(self):
+        for yard in (("b", -1), ("b", True), ("b",), ("B", 0), ["b", 0], None, ("b", 0, 0), ("", 0), (None, 0)):
+            self.assertIs(is_net((3, (("a", 0), yard), (), ())), False, yard)
+        for line in (("y", "a", "b", -1, 1), ("y", "a", "c", 1, 1), ("y", "a", "b", 1), ["y", "a", "b", 1, 1], None):
+            self.assertIs(is_net((3, YARDS, LINES + (line,), ())), False, line)
+        for row in (("o", "a", (3,)), ("o", "c", ()), ("o", "a"), ["o", "a", ()], None, ("o", "a", [])):
+            self.assertIs(is_net((3, YARDS, LINES, PEOPLE + (row,))), False, row)
+        for row in (("b", 3, 1), ("b", 0, 0), ("c", 0, 1), ["b", 0, 1], ("b", 0), None):
+            self.assertIs(is_arrivals(NET, (("a", 0, 1), row)), False, row)
+
     def test_wrong_lines(self):
         for lines in ([], [("x", "a", "b", 0, 0)], (["x", "a", "b", 0, 0],), (("x", "a", "a", 1, 1),),
                       (("x", "a", "c", 1, 1),), (("x", "c", "a", 1, 1),), (("x", "a", "b", -1, 1),),
@@ -69,6 +79,8 @@ class IsNet(unittest.TestCase):
         self.assertFalse(told("ab", "bc", "cd", "da"))
         self.assertFalse(told("ea", "ab", "bc", "cd", "db", "df"))
         self.assertFalse(told("ab", "cd", "dc"))
+        self.assertFalse(told("ab", "bc", "cd", "de", "ed"))
+        self.assertFalse(told("af", "ab", "bc", "cd", "de", "ef", "fe"))
         self.assertTrue(told("ab", "ba1"))
         self.assertTrue(told("ab", "bc", "ca2"))
         self.assertTrue(told("ab", "bc", "ac", "cd", "ad"))
