@@ -8,6 +8,7 @@ import unittest
 
 ROOT = os.path.dirname(os.path.dirname(os.path.abspath(__file__)))
 PACKAGE = os.path.join(ROOT, "freightrights")
+TAKEN = set(dir(builtins)) - {"_"}
 FUNCTIONS = set("""len range enumerate zip min max sum abs sorted reversed int str bool list tuple dict set isinstance ord repr any all
     divmod ValueError TypeError KeyError IndexError LookupError""".split())
 METHODS = set("""append clear count endswith extend find get index insert isalnum isalpha isdigit islower isspace isupper items join keys
@@ -127,10 +128,10 @@ class Words(unittest.TestCase):
             for node in ast.walk(tree):
                 if isinstance(node, ast.FunctionDef):
                     for word in stored_names(node):
-                        self.assertNotIn(word, dir(builtins), (name, node.name))
+                        self.assertNotIn(word, TAKEN, (name, node.name))
                         self.assertNotIn(word, taken | defined, (name, node.name))
                         self.assertNotIn(word, UNUSED, (name, node.name))
-                    self.assertFalse(node.name in dir(builtins) or node.name in UNUSED, (name, node.name))
+                    self.assertFalse(node.name in TAKEN or node.name in UNUSED, (name, node.name))
                 elif isinstance(node, ast.Attribute):
                     self.assertFalse(node.attr.startswith("_") and node.attr != "__init__", (name, node.attr))
 
