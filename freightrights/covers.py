@@ -3,7 +3,7 @@
 from freightrights.checks import check_customers
 from freightrights.errors import OtherCustomers
 from freightrights.freight import free_freight, limits_of, open_freight
-from freightrights.groups import all_sets, joined
+from freightrights.groups import all_sets, joined, lies_within, without
 from freightrights.nets import customer_names
 from freightrights.plans import freight_for, is_plan, taking_of
 from freightrights.shapes import frozen
@@ -46,6 +46,28 @@ def cover_table(net, arrivals, limits):
 def free_table(net, arrivals):
     """A dict of the COVERS of all sets of customers."""
     return cover_table(net, arrivals, [plenty_of(arrivals)] * len(net[3]))
+
+
+def keeps_to(names, table, taking):
+    """Whether no set of customers takes more than the table tells for it."""
+    got = {name: number for name, number in zip(names, taking)}
+    return all([sum([got[name] for name in some]) <= table[some] for some in table])
+
+
+def takings_within(names, table, limits):
+    """The ascending list of the TAKINGS that keep to the table, each number within its limit."""
+    rows = [()]
+    for limit in limits:
+        rows = [row + (amount,) for row in rows for amount in range(limit + 1)]
+    return [row for row in rows if keeps_to(names, table, row)]
+
+
+def lots_of(table):
+    """The set of the least sets, not (), such that what one and all others take comes to what all take."""
+    names = max(table, key=len)
+    apart = [row for row in table if row and table[row] + table[without(names, row)] == table[names]]
+    inner = [row for row in apart if any([lies_within(other, row) and other != row for other in apart])]
+    return tuple(sorted(without(apart, inner)))
 
 
 def as_pairs(table):
@@ -156,10 +178,8 @@ def all_takings(net, arrivals):
     """The ascending list of the TAKINGS that can be: no set takes more than its COVER."""
     net, arrivals = frozen((net, arrivals))
     table = free_table(net, arrivals)
-    rows = [()]
-    for name in customer_names(net):
-        rows = [row + (amount,) for row in rows for amount in range(table[(name,)] + 1)]
-    return [row for row in rows if all([taken_by(net, row, some) <= table[some] for some in table])]
+    names = customer_names(net)
+    return takings_within(names, table, [table[(name,)] for name in names])
 
 
 def how_many_takings(net, arrivals):

@@ -1,7 +1,9 @@
 """What several tests need: NETS by chance, and plain looks of their own at PLANS, CUTS and COVERS."""
 
 import random
-from itertools import combinations
+from itertools import combinations, permutations, product
+
+from freightrights.covers import cover
 
 NAMES = "abcdefgh"
 
@@ -112,6 +114,117 @@ def fits(net, book, taking):
     return all(total_of(net, taking, some) <= book[some] for some in book)
 
 
+def small_nets(seed, many, customers=3, spots=8, great=0):
+    """NETS of so few spots, ARRIVALS, and the book of COVERS."""
+    found = 0
+    while found < many:
+        net, arrivals = chance_net(seed, 4, 3, 5, customers, great > 0 and seed % great == 0)
+        seed += 1
+        if len(all_spots(net)) <= spots:
+            found += 1
+            yield net, arrivals, cover_book(net, arrivals)
+
+
+def taking_nets(seed, many, customers=3, most=60):
+    """NETS with the book of COVERS and all TAKINGS that can be, at most so many."""
+    found = 0
+    while found < many:
+        net, arrivals = chance_net(seed, 4, 3, 5, customers)
+        seed += 1
+        if len(all_spots(net)) > 8:
+            continue
+        book = cover_book(net, arrivals)
+        bounds = [range(book[(name,)] + 1) for name in people(net)]
+        if 1 <= len(list(product(*bounds))) <= 4 * most:
+            takings = [row for row in product(*bounds) if fits(net, book, row)]
+            if len(takings) <= most:
+                found += 1
+                yield net, arrivals, book, takings
+
+
+def great_nets(seed, many, customers=6):
+    """NETS as great as bounds let them be, some with great amounts."""
+    for at in range(many):
+        yield chance_net(seed + at, 6, 5, 8, customers, at % 2 == 0)
+
+
+def lively(many, rows):
+    """So many of these rows of a NET, ARRIVALS and more, most such that customers are in the way of each other."""
+    found = 0
+    for at, row in enumerate(rows):
+        net, arrivals = row[:2]
+        alone = sum(cover(net, arrivals, (name,)) for name in people(net))
+        if alone > cover(net, arrivals, people(net)) or at % 16 == 0:
+            found += 1
+            yield row
+        if found == many:
+            return
+
+
+def lively_nets(seed, many, customers=3, spots=8, great=0):
+    return lively(many, small_nets(seed, 10 ** 6, customers, spots, great))
+
+
+def lively_takings(seed, many, customers=3, most=60):
+    return lively(many, taking_nets(seed, 10 ** 6, customers, most))
+
+
+def lively_great(seed, many, customers=6):
+    return lively(many, great_nets(seed, 10 ** 6, customers))
+
+
+def changed(net, taking, name, more):
+    at = people(net).index(name)
+    return taking[:at] + (taking[at] + more,) + taking[at + 1:]
+
+
+def together(one, other):
+    return tuple(sorted(set(one) | set(other)))
+
+
+def ranks(net):
+    return list(permutations(people(net)))
+
+
+def shares(net, book, rank):
+    """What all get by a RANK, by the COVERS of its beginnings."""
+    got = {}
+    for at, name in enumerate(rank):
+        got[name] = book[tuple(sorted(rank[:at + 1]))] - book[tuple(sorted(rank[:at]))]
+    return tuple(got[name] for name in people(net))
+
+
+def answered(net, book, row, taking=None):
+    """The answers to a ROW and what it serves, request by request, from a TAKING on."""
+    taking = taking or (0,) * len(people(net))
+    answers = []
+    for name in row:
+        more = changed(net, taking, name, 1)
+        answers.append(fits(net, book, more))
+        if answers[-1]:
+            taking = more
+    return tuple(answers), taking
+
+
+def some_wishes(chance, net, book, great=False):
+    """WISHES by chance, about as great as what each customer can take."""
+    rows = []
+    for name in people(net):
+        most = book[(name,)]
+        rows.append(chance.choice([0, most, most + 1, most // 2, most // 3 + 1, 10 ** 30 if great else 5]))
+    return tuple(rows)
+
+
+def some_classes(chance, net):
+    """CLASSES by chance, some of nobody."""
+    names = list(people(net))
+    many = chance.choice([1, 1, 2, 3, 4])
+    classes = [[] for _ in range(many)]
+    for name in names:
+        chance.choice(classes).append(name)
+    return tuple(tuple(row) for row in classes)
+
+
 def goods_book(net, arrivals, plan):
     """What is there, is left, lies over and is given back, kept hour by hour."""
     moves, takes = plan
@@ -167,6 +280,14 @@ def as_lists(told):
     if isinstance(told, (tuple, list)):
         return [as_lists(part) for part in told]
     return told
+
+
+def check_raises(case, error, kept, call, *told):
+    """That the call raises just this error, with just these values."""
+    with case.assertRaises(error) as caught:
+        call(*told)
+    case.assertIs(type(caught.exception), error)
+    case.assertEqual(vars(caught.exception), kept)
 
 
 STRANGE = [

@@ -12,17 +12,32 @@ NET = (3, (("a", 1), ("b", 0)), (("x", "a", "b", 1, 4), ("y", "a", "b", 0, 1)), 
 GOODS = (("a", 0, 5), ("b", 2, 1))
 PLAN = ((("x", 0, 3),), (("m", 1, 2), ("n", 0, 1)))
 FAR = (("a", 2), ("b", 1), ("b", 2))
+NEW = (3, (("a", 1), ("b", 0)), (("x", "a", "b", 1, 1), ("y", "a", "b", 0, 3)), (("m", "b", (1, 2)), ("n", "a", (0,))))
+DONE = ((("x", 0, 3),), (("n", 0, 1),))
 
 WORTHS = {
     "net": NET, "arrivals": GOODS, "plan": PLAN, "far": FAR, "yard": "a", "line": "x", "customer": "m", "hour": 1,
     "customers": ("m", "n"), "room": 3, "most": 2, "start": "b", "goal": "a", "late": 1, "hours": (0, 2), "names": ("b", "a"),
     "numbers": (3, 0), "some": ("m",), "taking": (2, 1), "wishes": (3, 1), "rank": ("n", "m"), "one": ("m",), "other": ("n",),
     "name": "n", "later": (("a", 0, 4),), "sets": ((), ("n",), ("m", "n")),
+    "trade": ("n", "m", 1), "giver": "n", "taker": "m", "prices": (2, -1), "row": ("n", "m", "m", "n", "m"), "place": 1, "level": 1,
+    "classes": (("n",), (), ("m",)), "told": (4, 2), "number": 2, "done": DONE, "real": (("a", 0, 5), ("b", 2, 2)), "when": 2,
+    "new": NEW, "coming": (("a", 0, 4), ("b", 2, 1)),
 }
 SPECIAL = {
     ("with_line", "line"): "z", ("with_customer", "customer"): "o", ("lost_between", "one"): FAR, ("lost_between", "other"): (("a", 0),),
     ("can_give", "one"): "m", ("can_give", "other"): "n", ("same_covers", "other"): NET,
+    ("lead_alike", "one"): ("m", "n"), ("lead_alike", "other"): ("n", "m"), ("pushed", "one"): "m", ("pushed", "other"): "n",
+    ("pushing_rank", "one"): "m", ("pushing_rank", "other"): "n", ("parting_net", "one"): ("m", "n"), ("parting_net", "other"): ("n", "m"),
+    ("can_take_from", "other"): "m", ("rivalry", "other"): "m", ("is_rivalry", "other"): "m", ("rivalry", "wishes"): (4, 3),
+    ("is_rivalry", "wishes"): (4, 3), ("unit_move", "taking"): (6, 0), ("unit_move", "wishes"): (9, 9), ("is_least", "taking"): (3, 3),
+    ("is_least", "wishes"): (9, 9), ("known_arrivals", "told"): (("a", 0, 4), ("b", 2, 1)), ("day_by_day", "told"): GOODS,
+    ("can_go_on", "taking"): (4, 2), ("plan_on", "taking"): (4, 2), ("is_outcome", "taking"): (3, 2), ("order_to", "taking"): (3, 2),
+    ("weights_against", "taking"): (3, 2), ("is_corner", "taking"): (1, 5), ("rank_to", "taking"): (1, 5),
+    ("how_many_ranks", "taking"): (1, 5), ("is_losing_rank", "coming"): GOODS,
     ("net_from", "text"): "hours 2; yard a 1; yard b 0; line x a b 1 2; customer m b 0 1; customer n a",
+    **{(name, part): worth for name in ("units_between", "trade_row", "is_trade_row") for part, worth in (("one", (6, 0)), ("other", (1, 2)))},
+    **{(name, part): worth for name in ("over", "telling_level") for part, worth in (("one", (6, 0)), ("other", (3, 3)))},
     ("names_from", "text"): "b a", ("numbers_from", "text"): "3 0", ("arrivals_from", "text"): "a 0 3; b 1 2",
 }
 THINGS = {
@@ -30,7 +45,13 @@ THINGS = {
     "is_leaner": ((("x", 0, 2),), PLAN[1]), "is_cut": FAR, "is_narrowest": (("a", 1), ("a", 2), ("b", 1), ("b", 2)),
     "is_cover_plan": ((("x", 0, 4), ("y", 2, 1)), (("m", 1, 4), ("m", 2, 2))), "is_full_chain": ((),),
     "is_full_paper": (), "is_loose_paper": ((("x", 0, 3),), (("m", 1, 3),)),
+    "is_trade": ("n", "m", 1), "is_trade_row": (("m", "", 3), ("m", "n", 2)), "is_rivalry": (("m", "m", "m", "n", "n", "n", "m"), 5),
+    "is_next_hour": ((), (("m", 1, 3),)), "is_losing_rank": ("m", "n"),
 }
+
+LISTED = ("narrowest_cuts", "all_takings", "full_sets", "trades_from", "all_least")
+TRUTHS = """can_be is_whole are_apart same_covers can_give always_full both_full is_best is_corner lead_alike is_outcome is_least can_take_from
+    can_go_on never_harms is_full""".split()
 
 
 def calls():
@@ -74,8 +95,8 @@ class Calls(unittest.TestCase):
                 self.assertEqual(list(inspect.signature(call).parameters), list(told))
                 self.assertEqual(repr(call(**told)), repr(answer))
                 self.assertEqual(repr(call(**dict(reversed(list(told.items()))))), repr(answer))
-                if name.startswith("is_"):
-                    self.assertIs(answer, name != "is_whole" and name != "is_full")
+                if "thing" in told:
+                    self.assertIs(answer, True)
 
     def test_lists_for_tuples(self):
         for name, call, told in calls():
@@ -101,7 +122,7 @@ class Calls(unittest.TestCase):
     def test_lists_are_answered_where_they_are_told(self):
         for name, call, told in calls():
             answer = call(**told)
-            if name in ("narrowest_cuts", "all_takings", "full_sets"):
+            if name in LISTED:
                 self.assertIsInstance(answer, list)
                 kept = list(answer)
                 answer.append("more")
@@ -121,7 +142,7 @@ class Calls(unittest.TestCase):
 
     def test_truths_are_truths(self):
         for name, call, told in calls():
-            if "thing" in told or name in ("can_be", "is_whole", "are_apart", "same_covers", "can_give", "always_full", "both_full"):
+            if "thing" in told or name in TRUTHS:
                 self.assertIsInstance(call(**told), bool, name)
                 if "thing" in told:
                     self.assertIs(call(**dict(told, thing=as_lists(told["thing"]))), False, name)

@@ -4,8 +4,7 @@ import random
 import unittest
 from itertools import product
 
-from helpers import STRANGE, all_spots, as_lists, chance_net, cover_book, fits, good_plan, own_spots, parts, people, served
-from helpers import total_of, value
+from helpers import STRANGE, as_lists, fits, good_plan, great_nets, own_spots, parts, people, served, small_nets, total_of, value
 
 from freightrights.covers import all_takings, are_apart, can_be, cover, cover_plan, covers, gain, how_many_takings
 from freightrights.covers import is_cover_plan, is_whole, over_set, room_beside, same_covers, whole, wished_cover
@@ -18,23 +17,6 @@ GOODS = (("a", 0, 3), ("a", 1, 1))
 GREAT = 10 ** 30
 
 
-def small_nets(many, customers=3, great=5):
-    seed = 1000
-    found = 0
-    while found < many:
-        net, arrivals = chance_net(seed, 4, 3, 5, customers, great > 0 and seed % great == 0)
-        seed += 1
-        if len(all_spots(net)) <= 8:
-            found += 1
-            yield net, arrivals, cover_book(net, arrivals)
-
-
-def great_nets(many):
-    for seed in range(many):
-        net, arrivals = chance_net(seed + 500, 6, 5, 8, 6, seed % 2 == 0)
-        yield net, arrivals
-
-
 def takings_about(seed, net, book, many):
     """TAKINGS by chance, some that can be and some that cannot."""
     chance = random.Random(seed)
@@ -44,7 +26,7 @@ def takings_about(seed, net, book, many):
 
 class Covers(unittest.TestCase):
     def test_least_values(self):
-        for net, arrivals, book in small_nets(80):
+        for net, arrivals, book in small_nets(1000, 80, 3, 8, 5):
             self.assertEqual(covers(net, arrivals), tuple((some, book[some]) for some in sorted(book)))
             self.assertEqual(covers(as_lists(net), as_lists(arrivals)), tuple((some, book[some]) for some in sorted(book)))
             for some in book:
@@ -57,7 +39,7 @@ class Covers(unittest.TestCase):
 
     def test_guarantees(self):
         """A PLAN that carries so much, and a CUT of just this value: so both are right."""
-        for net, arrivals in great_nets(40):
+        for net, arrivals in great_nets(500, 40):
             book = dict(covers(net, arrivals))
             self.assertEqual(list(book), parts(people(net)))
             self.assertEqual(book[()], 0)
@@ -88,7 +70,7 @@ class Covers(unittest.TestCase):
         self.assertEqual(covers(six, (("a", 0, 2 * GREAT),)), (((), 0), (("m",), GREAT - 1), (("m", "n"), 2 * GREAT - 1), (("n",), GREAT)))
 
     def test_are_apart(self):
-        for net, arrivals, book in small_nets(40):
+        for net, arrivals, book in small_nets(1000, 40, 3, 8, 5):
             for one in book:
                 for other in book:
                     both = book[tuple(sorted(set(one) | set(other)))]
@@ -96,7 +78,7 @@ class Covers(unittest.TestCase):
         self.assertIs(are_apart(NET, GOODS, ["m"], ["n"]), False)
 
     def test_same_covers(self):
-        rows = list(small_nets(60, 2))
+        rows = list(small_nets(1000, 60, 2, 8, 5))
         for net, arrivals, book in rows:
             for other, later, second in rows:
                 if people(net) == people(other):
@@ -109,7 +91,7 @@ class Covers(unittest.TestCase):
 
 class Takings(unittest.TestCase):
     def test_by_books(self):
-        for seed, (net, arrivals, book) in enumerate(small_nets(60)):
+        for seed, (net, arrivals, book) in enumerate(small_nets(1000, 60, 3, 8, 5)):
             for taking in takings_about(seed, net, book, 8):
                 right = fits(net, book, taking)
                 over = sorted((len(some), some) for some in book if total_of(net, taking, some) > book[some])
@@ -136,7 +118,7 @@ class Takings(unittest.TestCase):
 
     def test_one_by_one(self):
         asked = 0
-        for net, arrivals, book in small_nets(60, 3, 0):
+        for net, arrivals, book in small_nets(1000, 60):
             bounds = [book[(name,)] for name in people(net)]
             rows = [row for row in product(*[range(most + 1) for most in bounds]) if fits(net, book, row)]
             many = 1
@@ -153,7 +135,7 @@ class Takings(unittest.TestCase):
         self.assertEqual(len(all_takings(NET, GOODS)), 12)
 
     def test_wishes(self):
-        for seed, (net, arrivals, book) in enumerate(small_nets(50)):
+        for seed, (net, arrivals, book) in enumerate(small_nets(1000, 50, 3, 8, 5)):
             for wishes in takings_about(seed, net, book, 3):
                 rows = []
                 for some in sorted(book):
@@ -166,7 +148,7 @@ class Takings(unittest.TestCase):
 
 class Plans(unittest.TestCase):
     def test_there_and_back(self):
-        for net, arrivals, book in small_nets(40):
+        for net, arrivals, book in small_nets(1000, 40, 3, 8, 5):
             plans = {some: cover_plan(net, arrivals, some) for some in book}
             for some in book:
                 self.assertEqual(cover_plan(as_lists(net), as_lists(arrivals), list(some)), plans[some])

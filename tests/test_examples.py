@@ -7,7 +7,8 @@ import re
 import unittest
 
 PACKAGE = "freightrights"
-PLACES = ["errors", "nets", "texts", "plans", "cuts", "covers", "fulls"]
+PLACES = ["errors", "nets", "texts", "plans", "cuts", "covers", "fulls", "trades", "rights", "rows", "spreads", "wishes", "promises",
+          "works"]
 
 NETS = r'''
 >>> net = net_from("hours 3; yard a 2; yard b 0; line x a b 1 4; customer m b 1 2; customer n a 0")
@@ -93,6 +94,98 @@ raises CanNot()
 raises NoCustomer(name='z')
 '''
 
+TRADES = r'''
+>>> net, goods = net_from("hours 1; yard x 0; yard y 0; line l x y 0 1; customer a x 0; customer b y 0"), (("x", 0, 2),)
+>>> trades_from(net, goods, (1, 1)), trade_most(net, goods, (1, 1), "a", "b"), behind_trade(net, goods, (2, 0), ("a", "b", 1)), always_trades(net, goods), lots_apart(net, goods)
+([('a', '', 1), ('b', '', 1), ('b', 'a', 1)], 0, (1, 1), (('b', 'a'),), (('a', 'b'),))
+>>> units_between(net, goods, (2, 0), (0, 1)), is_trade_row(net, goods, (2, 0), (0, 1), (("a", "b", 1), ("a", "", 1))), better_trade(net, goods, (1, 1), (3, 2)), best_chain(net, goods, (2, 0), (3, 2))
+(2, True, ('b', 'a', 1), (('a',), ('a', 'b')))
+>>> trades_from(net, goods, (0, 2))
+raises CanNot()
+'''
+
+RIGHTS = r'''
+>>> net = net_from("hours 2; yard a 1; yard b 0; line l a b 1 2; customer p a 0 1; customer q b 1; customer r b 0 1")
+>>> arrivals = (("a", 0, 3), ("a", 1, 1), ("b", 0, 1))
+>>> by_rank(net, arrivals, ("p", "q", "r")), by_rank(net, arrivals, ("q", "r", "p")), by_rank_wished(net, arrivals, (1, 1, 9), ("p", "q", "r")), weights_against(net, arrivals, ("p", "q", "r"), (2, 2, 1))
+((4, 0, 1), (2, 2, 1), (1, 1, 2), (1, 0, 0))
+>>> corners(net, arrivals), rank_to(net, arrivals, (2, 0, 3)), how_many_ranks(net, arrivals, (2, 0, 3)), is_corner(net, arrivals, (3, 1, 1)), idle_places(net, arrivals, ("p", "q", "r"))
+(((2, 0, 3), (2, 2, 1), (4, 0, 1)), ('r', 'p', 'q'), 2, False, (1,))
+>>> sure_share(net, arrivals, "p"), most_share(net, arrivals, "p"), sure_share_at(net, arrivals, "p", 1), pushed(net, arrivals, "p", "r"), lead_alike(net, arrivals, ("q", "p", "r"), ("q", "r", "p"))
+(2, 4, 2, 2, True)
+>>> by_rank(net, arrivals, ("p", "q"))
+raises OtherCustomers()
+'''
+
+ROWS = r'''
+>>> net = net_from("hours 2; yard a 1; yard b 0; line l a b 1 2; customer p a 0 1; customer q b 1; customer r b 0 1")
+>>> arrivals, row = (("a", 0, 3), ("a", 1, 1), ("b", 0, 1)), ("q", "p", "p", "p", "q", "r", "p")
+>>> answers_to(net, arrivals, row), row_serves(net, arrivals, row), gets_instead(net, arrivals, row, 1), gets_instead(net, arrivals, row, 5), gives_way(net, arrivals, row, 0, "q")
+((True, True, True, True, False, True, False), (3, 1, 1), 4, None, 3)
+>>> outcomes(net, arrivals, ("p", "p", "p", "q", "q", "r")), order_to(net, arrivals, ("q", "q", "p", "p", "p", "r"), (2, 2, 1)), idle_asks(net, arrivals, row), row_for(net, arrivals, (1, 0, 2)), parting_net(row, row)
+(((2, 2, 1), (3, 1, 1)), ('p', 'p', 'q', 'q', 'p', 'r'), (0, 4, 5), ('p', 'r', 'r'), None)
+>>> row_for(net, arrivals, (5, 0, 0))
+raises CanNot()
+'''
+
+SPREADS = r'''
+>>> hub = "hours 1; yard a 0; yard b 0; yard c 0; yard h 0; line u h a 0 1; line v h b 0 9; line w h c 0 9"
+>>> net, six, free = net_from(hub + "; customer p a 0; customer q b 0; customer r c 0"), (("h", 0, 6),), (9, 9, 9)
+>>> all_least(net, six, free), ladder(net, six, free), least_spread(net, six, free, ("r", "q", "p")), unit_move(net, six, free, (1, 4, 1)), is_least(net, six, free, (1, 3, 2))
+([(1, 2, 3), (1, 3, 2)], ((1, 0, ('p',)), (2, 1, ('q', 'r'))), (1, 2, 3), ('q', 'r'), True)
+>>> class_spread(net, six, (9, 4, 9), (("q",), ("p", "r"))), class_spread(net, six, free, (("p", "q", "r"),)), over((1, 4, 1), 2), telling_level((1, 4, 1), (1, 2, 3)), telling_level((1, 2, 3), (1, 4, 1))
+((1, 4, 1), (1, 3, 2), 2, 2, None)
+>>> unit_move(net, six, free, (1, 2, 2))
+raises CanNot()
+'''
+
+WISHES = r'''
+>>> net = net_from("hours 2; yard a 1; yard b 0; line x a b 0 1; customer m a 0; customer n b 0 1; customer o a 1")
+>>> two, one, rank = (("a", 0, 2),), (("m", "n", "o"),), (("m",), ("n", "o"))
+>>> share_if(net, two, (2, 2, 1), one, "n", 9), ceiling(net, two, (2, 2, 1), one, "m"), ceiling(net, two, (2, 2, 1), rank, "m"), wish_more(net, two, (2, 0, 1), one, "n"), harm_by(net, two, (2, 2, 1), one, "n")
+(1, 1, 2, (True, 'o'), (0, 0, 1))
+>>> uses_if(net, two, (2, 2, 1), (0, 2, 1), one), better_by(net, two, (2, 2, 1), (0, 2, 1), one), worse_by(net, two, (2, 2, 1), (0, 2, 1), one)
+((0, 1, 1), ('o',), ('m',))
+>>> least_got(net, two, (2, 2, 1), "n"), most_got(net, two, (2, 2, 1), "n"), rival_parts(net, two, (2, 2, 1)), rival_parts(net, two, (1, 1, 0)), always_served(net, two, (1, 1, 0))
+(0, 2, (('m', 'n', 'o'),), (('m',), ('n',), ('o',)), ('m', 'n', 'o'))
+>>> can_take_from(net, two, (1, 1, 1), "o", "m"), is_rivalry(net, two, (1, 1, 1), "n", "o", (("m", "n", "o"), 1)), is_rivalry(net, two, (1, 1, 1), "n", "o", (("n", "o"), 0))
+(True, True, False)
+'''
+
+PROMISES = r'''
+>>> net = net_from("hours 2; yard a 1; yard b 0; line x a b 0 1; customer m a 0; customer n b 0 1; customer o a 1")
+>>> two, one, done = (("a", 0, 2),), (("m", "n", "o"),), ((), (("m", 0, 1),))
+>>> left_net(net, 1), left_arrivals(net, two, done, 1), known_arrivals((("a", 0, 2), ("a", 1, 5)), (("b", 1, 3),), 0)
+((1, (('a', 1), ('b', 0)), (('x', 'a', 'b', 0, 1),), (('m', 'a', ()), ('n', 'b', (0,)), ('o', 'a', (0,)))), (('a', 0, 1),), (('a', 0, 2), ('b', 1, 3)))
+>>> promised(net, two, done, 1, (2, 2, 1), one), raised_by(net, two, done, 1, (2, 2, 1), one, "a", 1), can_go_on(net, two, done, 1, (1, 0, 1)), can_go_on(net, two, done, 1, (2, 0, 0))
+((1, 1, 0), 'o', True, False)
+>>> [is_next_hour(net, two, ((), ()), 0, (2, 2, 1), one, own) for own in (((("x", 0, 1),), (("m", 0, 1), ("n", 0, 1))), ((), (("m", 0, 1),)), ((), ()))], missed(net, two, ((), ()), 1, ("m",)), missed(net, two, ((), ()), 1, ("m", "n"))
+([True, True, False], 2, 1)
+>>> raised_by(net, two, done, 1, (2, 2, 1), one, "a", 0)
+raises NoNumber(number=0)
+>>> plan_on(net, two, done, 1, (2, 0, 0))
+raises CanNot()
+'''
+
+WORKS = r'''
+>>> net = net_from("hours 2; yard x 0; yard y 0; line l x y 0 1; line m x y 1 2; customer a x 0 1; customer b y 0; customer c y 1")
+>>> wide = net_from("hours 2; yard x 0; yard y 0; line l x y 0 2; line m x y 1 2; customer a x 0 1; customer b y 0; customer c y 1")
+>>> less = net_from("hours 2; yard x 0; yard y 0; line l x y 0 1; line m x y 1 0; customer a x 0 1; customer b y 0; customer c y 1")
+>>> come = (("x", 0, 3),)
+>>> [own for own in all_growths(net, come, wide, come) if own[1] != 0], never_harms(net, come, wide, come), falling(net, come, wide, come)
+([(('b',), 1)], False, (('b',), 'a'))
+>>> losers(net, come, wide, come), gainers(net, come, wide, come), most_lost(net, come, wide, come, "a"), most_lost(net, come, wide, come, "b")
+(('a', 'c'), ('b',), 1, 0)
+>>> is_losing_rank(net, come, wide, come, "c", ("b", "c", "a")), is_losing_rank(net, come, wide, come, "c", ("c", "b", "a")), lost_units(net, come, wide, come, ("b", "b", "a", "c", "c"))
+(True, False, (3,))
+>>> growth(net, come, less, come, ("c",)), losers(net, come, less, come), gainers(net, come, less, come)
+(-2, ('c',), ('a',))
+>>> growing_spots(net, come, ("c",)), growing_spots(net, come, ("a", "b", "c")) == spots(net), helped(net, come, "y", 1)
+((('x', 1), ('y', 1)), True, ('c',))
+>>> helped(net, come, "y", 2)
+raises NoNumber(number=2)
+'''
+
 
 def all_names():
     found = {}
@@ -150,6 +243,27 @@ class Examples(unittest.TestCase):
 
     def test_fulls(self):
         self.check_rows(FULLS)
+
+    def test_trades(self):
+        self.check_rows(TRADES)
+
+    def test_rights(self):
+        self.check_rows(RIGHTS)
+
+    def test_rows(self):
+        self.check_rows(ROWS)
+
+    def test_spreads(self):
+        self.check_rows(SPREADS)
+
+    def test_wishes(self):
+        self.check_rows(WISHES)
+
+    def test_promises(self):
+        self.check_rows(PROMISES)
+
+    def test_works(self):
+        self.check_rows(WORKS)
 
 
 if __name__ == "__main__":

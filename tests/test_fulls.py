@@ -1,10 +1,9 @@
 """FULL sets against all TAKINGS of small NETS, papers and chains by a look at what they claim."""
 
 import unittest
-from itertools import product
 
-from helpers import STRANGE, all_spots, as_lists, chance_net, cover_book, cuts_with_values, fits, good_plan, own_spots, people
-from helpers import served, total_of, value
+from helpers import STRANGE, all_spots, as_lists, chance_net, changed, cuts_with_values, fits, good_plan, own_spots, people, served
+from helpers import taking_nets, total_of, value
 
 from freightrights.covers import covers
 from freightrights.errors import CanNot, NoCustomer
@@ -17,36 +16,13 @@ GOODS, TAKING = (("a", 0, 3),), (1, 0, 2)
 GREAT = 10 ** 30
 
 
-def small_nets(many, customers=3, most=60):
-    """NETS with the book of COVERS and all TAKINGS that can be, at most so many."""
-    seed = 2000
-    found = 0
-    while found < many:
-        net, arrivals = chance_net(seed, 4, 3, 5, customers)
-        seed += 1
-        if len(all_spots(net)) > 8:
-            continue
-        book = cover_book(net, arrivals)
-        bounds = [range(book[(name,)] + 1) for name in people(net)]
-        if 1 <= len(list(product(*bounds))) <= 4 * most:
-            takings = [row for row in product(*bounds) if fits(net, book, row)]
-            if len(takings) <= most:
-                found += 1
-                yield net, arrivals, book, takings
-
-
 def fulls_of(net, book, taking):
     return sorted(some for some in book if total_of(net, taking, some) == book[some])
 
 
-def changed(net, taking, name, more):
-    at = people(net).index(name)
-    return taking[:at] + (taking[at] + more,) + taking[at + 1:]
-
-
 class Fulls(unittest.TestCase):
     def test_sets(self):
-        for net, arrivals, book, takings in small_nets(50):
+        for net, arrivals, book, takings in taking_nets(2000, 50):
             for taking in takings:
                 fulls = fulls_of(net, book, taking)
                 self.assertEqual(full_sets(net, arrivals, taking), fulls)
@@ -62,7 +38,7 @@ class Fulls(unittest.TestCase):
                     self.assertTrue(all(set(least) <= set(row) for row in rows))
 
     def test_get_and_give(self):
-        for net, arrivals, book, takings in small_nets(50):
+        for net, arrivals, book, takings in taking_nets(2000, 50):
             for taking in takings:
                 able = tuple(name for name in people(net) if fits(net, book, changed(net, taking, name, 1)))
                 self.assertEqual(can_get(net, arrivals, taking), able)
@@ -77,7 +53,7 @@ class Fulls(unittest.TestCase):
                     self.assertEqual(getters(net, arrivals, taking, name), tuple(one for one in people(net) if gives[name, one]))
 
     def test_knots_and_chains(self):
-        for net, arrivals, book, takings in small_nets(50):
+        for net, arrivals, book, takings in taking_nets(2000, 50):
             for taking in takings:
                 fulls = fulls_of(net, book, taking)
                 found = {}
@@ -125,7 +101,7 @@ class Fulls(unittest.TestCase):
 
 class Papers(unittest.TestCase):
     def test_papers(self):
-        for net, arrivals, book, takings in small_nets(40):
+        for net, arrivals, book, takings in taking_nets(2000, 40):
             for taking in takings[::2]:
                 for some in book:
                     full = total_of(net, taking, some) == book[some]
@@ -141,7 +117,7 @@ class Papers(unittest.TestCase):
                         self.assertIs(is_loose_paper(net, arrivals, taking, some, loose), True)
 
     def test_judging(self):
-        for net, arrivals, book, takings in small_nets(15):
+        for net, arrivals, book, takings in taking_nets(2000, 15):
             for some in book:
                 rows = cuts_with_values(net, arrivals, some)[::4]
                 plan = loose_paper(net, arrivals, (0,) * len(people(net)), people(net)) or ((), ())
@@ -164,7 +140,7 @@ class Papers(unittest.TestCase):
 
 class Always(unittest.TestCase):
     def test_by_all_takings(self):
-        for net, arrivals, book, takings in small_nets(45):
+        for net, arrivals, book, takings in taking_nets(2000, 45):
             tops = [row for row in takings if sum(row) == book[people(net)]]
             fulls = {row: set(fulls_of(net, book, row)) for row in takings}
             for some in book:

@@ -50,6 +50,46 @@ INTERFACE = {
         is_full_paper(net, arrivals, taking, some, thing), loose_paper(net, arrivals, taking, some),
         is_loose_paper(net, arrivals, taking, some, thing), always_full(net, arrivals, some),
         both_full(net, arrivals, one, other), chain_taking(net, arrivals, sets)""",
+    "trades": """is_trade(net, arrivals, taking, thing), behind_trade(net, arrivals, taking, trade),
+        trade_most(net, arrivals, taking, giver, taker), trades_from(net, arrivals, taking),
+        units_between(net, arrivals, one, other), trade_row(net, arrivals, one, other),
+        is_trade_row(net, arrivals, one, other, thing), better_trade(net, arrivals, taking, prices),
+        is_best(net, arrivals, taking, prices), best_chain(net, arrivals, taking, prices),
+        always_trades(net, arrivals), lots_apart(net, arrivals)""",
+    "rights": """by_rank(net, arrivals, rank), by_rank_wished(net, arrivals, wishes, rank),
+        weights_against(net, arrivals, rank, taking), how_many_ranks(net, arrivals, taking),
+        is_corner(net, arrivals, taking), rank_to(net, arrivals, taking), corners(net, arrivals),
+        lead_alike(net, arrivals, one, other), idle_places(net, arrivals, rank), sure_share(net, arrivals, name),
+        most_share(net, arrivals, name), sure_share_at(net, arrivals, name, place),
+        worst_rank_at(net, arrivals, name, place), pushed(net, arrivals, one, other),
+        pushing_rank(net, arrivals, one, other)""",
+    "rows": """answers_to(net, arrivals, row), row_serves(net, arrivals, row), row_for(net, arrivals, taking),
+        gets_instead(net, arrivals, row, place), gives_way(net, arrivals, row, place, name),
+        is_outcome(net, arrivals, row, taking), order_to(net, arrivals, row, taking), outcomes(net, arrivals, row),
+        idle_asks(net, arrivals, row), parting_net(one, other)""",
+    "spreads": """over(one, level), telling_level(one, other), is_least(net, arrivals, wishes, taking),
+        unit_move(net, arrivals, wishes, taking), least_spread(net, arrivals, wishes, rank),
+        class_spread(net, arrivals, wishes, classes), all_least(net, arrivals, wishes), ladder(net, arrivals, wishes)""",
+    "wishes": """use_of(wishes, taking), share_if(net, arrivals, wishes, classes, name, number),
+        ceiling(net, arrivals, wishes, classes, name), wish_more(net, arrivals, wishes, classes, name),
+        harm_by(net, arrivals, wishes, classes, name), uses_if(net, arrivals, wishes, told, classes),
+        better_by(net, arrivals, wishes, told, classes), worse_by(net, arrivals, wishes, told, classes),
+        least_got(net, arrivals, wishes, name), most_got(net, arrivals, wishes, name),
+        always_served(net, arrivals, wishes), rival_parts(net, arrivals, wishes),
+        can_take_from(net, arrivals, wishes, name, other), rivalry(net, arrivals, wishes, name, other),
+        is_rivalry(net, arrivals, wishes, name, other, thing)""",
+    "promises": """known_arrivals(real, told, hour), left_net(net, hour), left_arrivals(net, arrivals, done, hour),
+        promised(net, arrivals, done, hour, wishes, classes), can_go_on(net, arrivals, done, hour, taking),
+        plan_on(net, arrivals, done, hour, taking), next_hour(net, arrivals, done, hour, wishes, classes),
+        is_next_hour(net, arrivals, done, hour, wishes, classes, thing),
+        raised_by(net, arrivals, done, hour, wishes, classes, yard, when), missed(net, arrivals, done, hour, some),
+        day_by_day(net, real, told, wishes, classes)""",
+    "works": """growth(net, arrivals, new, coming, some), all_growths(net, arrivals, new, coming),
+        falling(net, arrivals, new, coming), never_harms(net, arrivals, new, coming),
+        losers(net, arrivals, new, coming), gainers(net, arrivals, new, coming),
+        most_lost(net, arrivals, new, coming, customer), losing_rank(net, arrivals, new, coming, customer),
+        is_losing_rank(net, arrivals, new, coming, customer, thing), lost_units(net, arrivals, new, coming, row),
+        growing_spots(net, arrivals, some), helped(net, arrivals, yard, hour)""",
 }
 
 
@@ -79,7 +119,7 @@ class Interface(unittest.TestCase):
 
     def test_number_of_functions(self):
         many = {place: len(listed(text)) for place, text in INTERFACE.items()}
-        self.assertEqual(many, {"nets": 22, "texts": 6, "plans": 12, "cuts": 12, "covers": 16, "fulls": 19})
+        self.assertEqual(many, {"nets": 22, "texts": 6, "plans": 12, "cuts": 12, "covers": 16, "fulls": 19, "trades": 12, "rights": 15, "rows": 10, "spreads": 8, "wishes": 15, "promises": 11, "works": 12})
 
 
 class Errors(unittest.TestCase):
