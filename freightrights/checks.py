@@ -42,6 +42,12 @@ def check_customers(net, names):
         customer_row(net, name)
 
 
+def check_yards(net, names):
+    """Raises NoYard for the first of names that is none."""
+    for name in names:
+        yard_row(net, name)
+
+
 def check_spot(net, yard, hour):
     """Raises NoYard, then NoNumber, for what is none of the NET."""
     yard_row(net, yard)

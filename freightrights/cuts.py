@@ -1,7 +1,7 @@
 """CUTS: sets of far spots, what leads to them, and those of the least value."""
 
 from freightrights.checks import check_customers, check_rank
-from freightrights.freight import SINK, SOURCE, free_freight
+from freightrights.freight import SINK, SOURCE, free_freight, open_freight
 from freightrights.groups import all_unions, joined, lies_within
 from freightrights.nets import spots, spots_of
 from freightrights.shapes import climbs, frozen, is_number, is_row
@@ -68,6 +68,15 @@ def far_with(freight, least, spot):
     """The spots that are far in each narrowest CUT in which this one is; least is the least CUT."""
     marks = freight.flow.nodes_before(freight.places[spot])
     return joined(least, freight.spots_marked(marks, True))
+
+
+def short_cut(net, arrivals, wishes):
+    """A set of customers that wish more than the value of a CUT for them, and this CUT; None if the WISHES can be."""
+    freight = open_freight(net, arrivals, wishes)
+    if freight.push() == sum(wishes):
+        return None
+    marks = freight.flow.nodes_before(SINK)
+    return freight.customers_marked(marks), freight.spots_marked(marks, True)
 
 
 def freight_to(net, arrivals, some):

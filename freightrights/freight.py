@@ -19,7 +19,9 @@ class Freight:
     """
 
     def __init__(self, net, arrivals):
-        self.net = net
+        self.hours = net[0]
+        self.lines = net[2]
+        self.customers = net[3]
         self.places = {spot: at + 2 for at, spot in enumerate(spots(net))}
         self.flow = Flow(2 + len(self.places) + len(net[3]))
         self.plenty = sum([row[2] for row in arrivals]) + 1
@@ -34,8 +36,8 @@ class Freight:
 
     def lay_lines(self, mosts):
         """Lays the lines; mosts tells by line and hour how much can leave."""
-        for line, start, goal, late, _ in self.net[2]:
-            for hour in range(self.net[0] - late):
+        for line, start, goal, late, _ in self.lines:
+            for hour in range(self.hours - late):
                 if (line, hour) in mosts:
                     ends = self.places[(start, hour)], self.places[(goal, hour + late)]
                     self.by_line[(line, hour)] = self.flow.lay(ends[0], ends[1], mosts[(line, hour)])
@@ -46,7 +48,7 @@ class Freight:
 
     def lay_customers(self, limits):
         """Lays the customers, each with the most that it takes in all."""
-        for at, (customer, yard, own) in enumerate(self.net[3]):
+        for at, (customer, yard, own) in enumerate(self.customers):
             for hour in own:
                 start = self.places[(yard, hour)]
                 self.by_customer[(customer, hour)] = self.flow.lay(start, self.node_of(at), self.plenty)
@@ -72,6 +74,10 @@ class Freight:
     def spots_marked(self, marks, mark):
         """The set of the spots whose nodes are so marked."""
         return tuple([spot for spot in self.places if marks[self.places[spot]] == mark])
+
+    def customers_marked(self, marks):
+        """The set of the customers whose nodes are marked."""
+        return tuple([row[0] for at, row in enumerate(self.customers) if marks[self.node_of(at)]])
 
 
 def open_freight(net, arrivals, limits):

@@ -10,14 +10,9 @@ from freightrights.plans import freight_for, is_plan, taking_of
 from freightrights.shapes import frozen
 
 
-def marked(net, freight, marks):
-    """The set of the customers whose nodes are marked."""
-    return tuple([name for at, name in enumerate(customer_names(net)) if marks[freight.node_of(at)]])
-
-
-def getting(net, freight):
+def getting(freight):
     """The set of those who can get: more goods could come to them."""
-    return marked(net, freight, freight.flow.nodes_after(SOURCE))
+    return freight.customers_marked(freight.flow.nodes_after(SOURCE))
 
 
 def getting_from(net, freight, taking, giver):
@@ -25,7 +20,7 @@ def getting_from(net, freight, taking, giver):
     at = customer_names(net).index(giver)
     if taking[at] == 0:
         return ()
-    return without(marked(net, freight, freight.flow.nodes_after(freight.node_of(at))), (giver,))
+    return without(freight.customers_marked(freight.flow.nodes_after(freight.node_of(at))), (giver,))
 
 
 def giving_to(net, freight, taking, getter):
@@ -36,7 +31,7 @@ def giving_to(net, freight, taking, getter):
 
 def least_fulls(net, freight, taking):
     """A dict: for each customer of a FULL set the least one: itself and those who can give to it."""
-    able = getting(net, freight)
+    able = getting(freight)
     rows = {}
     for name in customer_names(net):
         if name not in able:
@@ -85,7 +80,7 @@ def greatest_full(net, arrivals, taking):
     """The FULL set that has all others in it: of those who cannot get."""
     net, arrivals, taking = frozen((net, arrivals, taking))
     freight = freight_for(net, arrivals, taking)
-    return without(customer_names(net), getting(net, freight))
+    return without(customer_names(net), getting(freight))
 
 
 def least_full(net, arrivals, taking, customer):
@@ -98,7 +93,7 @@ def least_full(net, arrivals, taking, customer):
 def can_get(net, arrivals, taking):
     """The set of those who can get."""
     net, arrivals, taking = frozen((net, arrivals, taking))
-    return getting(net, freight_for(net, arrivals, taking))
+    return getting(freight_for(net, arrivals, taking))
 
 
 def can_give(net, arrivals, taking, one, other):

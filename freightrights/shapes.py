@@ -47,6 +47,13 @@ def is_set_of_hours(thing, hours):
     return all([is_hour(part, hours) for part in thing]) and climbs(thing)
 
 
+def is_set_of(thing, names):
+    """Whether thing is an ascending tuple of some of these names."""
+    if not isinstance(thing, tuple) or not all([isinstance(part, str) for part in thing]):
+        return False
+    return all([part in names for part in thing]) and climbs(thing)
+
+
 def is_digits(text):
     """Whether text is a number from 0 in decimal digits without a needless 0 in front."""
     if text == "" or not all(["0" <= sign <= "9" for sign in text]):

@@ -71,7 +71,7 @@ def trade_most(net, arrivals, taking, giver, taker):
 def unit_trades(net, arrivals, taking):
     """The ascending list of all TRADES of amount 1 that can be; raises CanNot."""
     freight = freight_for(net, arrivals, taking)
-    rows = [("", name, 1) for name in getting(net, freight)]
+    rows = [("", name, 1) for name in getting(freight)]
     for name, number in zip(customer_names(net), taking):
         if number > 0:
             rows = rows + [(name, taker, 1) for taker in ("",) + getting_from(net, freight, taking, name)]

@@ -282,6 +282,15 @@ def as_lists(told):
     return told
 
 
+def same(one, other):
+    """Whether both are equal, True being no 1 and a list no tuple."""
+    if type(one) is not type(other):
+        return False
+    if isinstance(one, (tuple, list)):
+        return len(one) == len(other) and all(same(*pair) for pair in zip(one, other))
+    return one == other
+
+
 def check_raises(case, error, kept, call, *told):
     """That the call raises just this error, with just these values."""
     with case.assertRaises(error) as caught:

@@ -15,6 +15,8 @@ FAR = (("a", 2), ("b", 1), ("b", 2))
 NEW = (3, (("a", 1), ("b", 0)), (("x", "a", "b", 1, 1), ("y", "a", "b", 0, 3)), (("m", "b", (1, 2)), ("n", "a", (0,))))
 DONE = ((("x", 0, 3),), (("n", 0, 1),))
 
+TIED = (3, NET[1], NET[2], (("m", "b", (1, 2)), ("n", "a", (0, 1))))
+
 WORTHS = {
     "net": NET, "arrivals": GOODS, "plan": PLAN, "far": FAR, "yard": "a", "line": "x", "customer": "m", "hour": 1,
     "customers": ("m", "n"), "room": 3, "most": 2, "start": "b", "goal": "a", "late": 1, "hours": (0, 2), "names": ("b", "a"),
@@ -22,6 +24,7 @@ WORTHS = {
     "name": "n", "later": (("a", 0, 4),), "sets": ((), ("n",), ("m", "n")),
     "trade": ("n", "m", 1), "giver": "n", "taker": "m", "prices": (2, -1), "row": ("n", "m", "m", "n", "m"), "place": 1, "level": 1,
     "classes": (("n",), (), ("m",)), "told": (4, 2), "number": 2, "done": DONE, "real": (("a", 0, 5), ("b", 2, 2)), "when": 2,
+    "site": ("line", "x"), "sites": (("line", "x"), ("yard", "b")), "cut": FAR, "yards": ("a",),
     "new": NEW, "coming": (("a", 0, 4), ("b", 2, 1)),
 }
 SPECIAL = {
@@ -35,6 +38,10 @@ SPECIAL = {
     ("can_go_on", "taking"): (4, 2), ("plan_on", "taking"): (4, 2), ("is_outcome", "taking"): (3, 2), ("order_to", "taking"): (3, 2),
     ("weights_against", "taking"): (3, 2), ("is_corner", "taking"): (1, 5), ("rank_to", "taking"): (1, 5),
     ("how_many_ranks", "taking"): (1, 5), ("is_losing_rank", "coming"): GOODS,
+    ("gone_by_turns", "sites"): (("yard", "b"), ("line", "x")), ("late_ones", "wishes"): (9, 9), ("narrow_without", "wishes"): (9, 9),
+    ("is_narrow_without", "wishes"): (9, 9), ("breaking", "taking"): (5, 1), ("is_breaking", "taking"): (5, 1),
+    **{(name, part): worth for name in ("tie", "is_tie", "two_arrivals", "are_two_arrivals", "tied", "in_time") for part, worth in
+       (("net", TIED), ("customer", "n"), ("rank", ("m", "n")), ("yards", ("a", "b")))},
     ("net_from", "text"): "hours 2; yard a 1; yard b 0; line x a b 1 2; customer m b 0 1; customer n a",
     **{(name, part): worth for name in ("units_between", "trade_row", "is_trade_row") for part, worth in (("one", (6, 0)), ("other", (1, 2)))},
     **{(name, part): worth for name in ("over", "telling_level") for part, worth in (("one", (6, 0)), ("other", (3, 3)))},
@@ -46,12 +53,15 @@ THINGS = {
     "is_cover_plan": ((("x", 0, 4), ("y", 2, 1)), (("m", 1, 4), ("m", 2, 2))), "is_full_chain": ((),),
     "is_full_paper": (), "is_loose_paper": ((("x", 0, 3),), (("m", 1, 3),)),
     "is_trade": ("n", "m", 1), "is_trade_row": (("m", "", 3), ("m", "n", 2)), "is_rivalry": (("m", "m", "m", "n", "n", "n", "m"), 5),
+    "is_narrow_without": (("m", "n"), (("a", 0), ("a", 1), ("a", 2), ("b", 0), ("b", 1), ("b", 2))), "is_weather": (("a", 0, 3), ("b", 2, 1)),
+    "is_dry_weather": (("a", 0, 4),), "is_breaking": ((("a", 0, 3), ("b", 2, 1)), ("m",)), "is_worst_weather": (("a", 0, 5),),
+    "is_tie": ("n", ("a", 0), "m", ("a", 2)), "are_two_arrivals": ((1, 1), (("a", 0, 1),), (("a", 0, 1), ("b", 2, 1))),
     "is_next_hour": ((), (("m", 1, 3),)), "is_losing_rank": ("m", "n"),
 }
 
-LISTED = ("narrowest_cuts", "all_takings", "full_sets", "trades_from", "all_least")
+LISTED = ("ranks_in_time", "narrowest_cuts", "all_takings", "full_sets", "trades_from", "all_least")
 TRUTHS = """can_be is_whole are_apart same_covers can_give always_full both_full is_best is_corner lead_alike is_outcome is_least can_take_from
-    can_go_on never_harms is_full""".split()
+    can_go_on never_harms is_full can_go surely_can_be in_time all_in_time always_in_time""".split()
 
 
 def calls():

@@ -8,7 +8,7 @@ import unittest
 
 PACKAGE = "freightrights"
 PLACES = ["errors", "nets", "texts", "plans", "cuts", "covers", "fulls", "trades", "rights", "rows", "spreads", "wishes", "promises",
-          "works"]
+          "works", "betters", "weather", "days"]
 
 NETS = r'''
 >>> net = net_from("hours 3; yard a 2; yard b 0; line x a b 1 4; customer m b 1 2; customer n a 0")
@@ -186,6 +186,50 @@ WORKS = r'''
 raises NoNumber(number=2)
 '''
 
+BETTERS = r'''
+>>> net, goods = net_from("hours 3; yard d 0; yard m 1; line q m d 1 5; line r m d 0 2; customer x d 0 1 2; customer y m 1"), (("m", 0, 3),)
+>>> m, q, r, d = ("yard", "m"), ("line", "q"), ("line", "r"), ("yard", "d")
+>>> need_alone(net, goods, (1, 2), m), need_alone(net, goods, (1, 2), r), need_alone(net, goods, (2, 2), m), helpers_alone(net, goods, (1, 2)), is_narrow_without(net, goods, (1, 2), r, (("y",), (("m", 1),)))
+(2, None, None, ((('yard', 'm'), 2),), True)
+>>> [least_kept(net, goods, site) for site in (m, q, r, d)], idle_by(net, goods, q), idle_sites(net, goods), uses_of(net, q, (("d", 0), ("d", 1), ("d", 2)))
+([1, 0, 0, 0], 5, (('line', 'q'), ('line', 'r'), ('yard', 'd')), 2)
+>>> can_go(net, goods, (q, r)), who_feels(net, goods, (q, r)), gone_by_turns(net, goods, (r, q, d)), most_gone(net, goods, (q, r, d)), need_alone(with_site(net, q, 0), goods, (3, 0), r)
+(False, ('x',), (('line', 'r'), ('yard', 'd')), (('line', 'q'), ('yard', 'd')), 2)
+>>> site_most(net, ("line", "m"))
+raises NoLine(name='m')
+'''
+
+WEATHER = r'''
+>>> net = net_from("hours 1; yard p 0; yard q 0; line x p q 0 2; customer a p 0; customer b q 0")
+>>> arrivals = (("p", 0, 3), ("q", 0, 1))
+>>> is_weather(arrivals, 2, (("p", 0, 1), ("q", 0, 1))), is_weather(arrivals, 2, (("q", 0, 1),))
+(True, False)
+>>> sure_cover(net, arrivals, 2, ("a",)), sure_cover(net, arrivals, 2, ("b",)), sure_cover(net, arrivals, 2, ("a", "b")), surely_can_be(net, arrivals, 2, (1, 1)), fewest_out(net, arrivals, (1, 2))
+(1, 2, 2, True, 2)
+>>> sure_shares(net, arrivals, 2, ("a", "b")), sure_shares(net, arrivals, 2, ("b", "a")), fewest_out_for(net, arrivals, ("a", "b"), "b", 1), fewest_out_for(net, arrivals, ("a", "b"), "a", 2)
+((1, 0), (0, 2), 1, 2)
+>>> felt_spots(net, arrivals, ("b",)), felt_spots(net, arrivals, ("a", "b"))
+((('q', 0),), (('p', 0), ('q', 0)))
+>>> is_breaking(net, arrivals, 2, (1, 2), ((("p", 0, 2),), ("a", "b"))), is_worst_weather(net, arrivals, 2, ("b", "a"), "a", (("p", 0, 1), ("q", 0, 1)))
+(True, True)
+>>> sure_cover(net, arrivals, 2, ("a", "z"))
+raises NoCustomer(name='z')
+'''
+
+DAYS = r'''
+>>> net = net_from("hours 4; yard p 0; yard q 1; yard r 1; yard s 0; yard v 0; line a q r 2 1; line b p r 3 1; line c p s 3 1; line d v s 1 1; customer j q 1; customer r r 3; customer s s 3")
+>>> gates, rank = ("p", "q", "v"), ("s", "r", "j")
+>>> tie(net, gates, rank, "j"), tied(net, gates, rank, "j"), in_time(net, gates, rank, "r"), all_in_time(net, gates, ("s", "j", "r"))
+(('j', ('q', 0), 'r', ('p', 0), 's', ('v', 2)), ('r', 's'), True, True)
+>>> one, other = (("p", 0, 1), ("q", 0, 1)), (("p", 0, 1), ("q", 0, 1), ("v", 2, 1))
+>>> are_two_arrivals(net, gates, rank, "j", ((1, 1, 1), one, other)), amount_known(net, other, (1, 1, 1), rank, "j"), late_ones(net, other, (1, 1, 1), rank), late_ones(net, one, (1, 1, 1), rank)
+(True, 0, ('j',), ())
+>>> ranks_in_time(net, gates), how_many_in_time(net, ("p", "q", "r", "s", "v")), rank_in_time(net, gates), always_in_time(net, gates, "j")
+([('j', 'r', 's'), ('j', 's', 'r'), ('r', 'j', 's'), ('s', 'j', 'r')], 3, ('j', 'r', 's'), False)
+>>> tie(net, ("p", "z"), rank, "j")
+raises NoYard(name='z')
+'''
+
 
 def all_names():
     found = {}
@@ -264,6 +308,15 @@ class Examples(unittest.TestCase):
 
     def test_works(self):
         self.check_rows(WORKS)
+
+    def test_betters(self):
+        self.check_rows(BETTERS)
+
+    def test_weather(self):
+        self.check_rows(WEATHER)
+
+    def test_days(self):
+        self.check_rows(DAYS)
 
 
 if __name__ == "__main__":

@@ -90,6 +90,23 @@ INTERFACE = {
         most_lost(net, arrivals, new, coming, customer), losing_rank(net, arrivals, new, coming, customer),
         is_losing_rank(net, arrivals, new, coming, customer, thing), lost_units(net, arrivals, new, coming, row),
         growing_spots(net, arrivals, some), helped(net, arrivals, yard, hour)""",
+    "betters": """site_most(net, site), with_site(net, site, number), uses_of(net, site, cut), need_alone(net, arrivals,
+        wishes, site), narrow_without(net, arrivals, wishes, site), is_narrow_without(net, arrivals, wishes, site,
+        thing), helpers_alone(net, arrivals, wishes), least_kept(net, arrivals, site), idle_by(net, arrivals, site),
+        idle_sites(net, arrivals), can_go(net, arrivals, sites), who_feels(net, arrivals, sites), gone_by_turns(net,
+        arrivals, sites), most_gone(net, arrivals, sites)""",
+    "weather": """is_weather(arrivals, most, thing), sure_cover(net, arrivals, most, some), dry_weather(net, arrivals, most,
+        some), is_dry_weather(net, arrivals, most, some, thing), breaking(net, arrivals, most, taking),
+        surely_can_be(net, arrivals, most, taking), is_breaking(net, arrivals, most, taking, thing), fewest_out(net,
+        arrivals, taking), sure_shares(net, arrivals, most, rank), worst_weather(net, arrivals, most, rank,
+        customer), is_worst_weather(net, arrivals, most, rank, customer, thing), fewest_out_for(net, arrivals, rank,
+        customer, number), felt_spots(net, arrivals, some)""",
+    "days": """last_hour(net, customer), known_to(arrivals, hour), amount_known(net, arrivals, wishes, rank, customer),
+        late_ones(net, arrivals, wishes, rank), tied(net, yards, rank, customer), tie(net, yards, rank, customer),
+        is_tie(net, yards, rank, customer, thing), in_time(net, yards, rank, customer), all_in_time(net, yards,
+        rank), always_in_time(net, yards, customer), two_arrivals(net, yards, rank, customer), are_two_arrivals(net,
+        yards, rank, customer, thing), how_many_in_time(net, yards), rank_in_time(net, yards), ranks_in_time(net,
+        yards)""",
 }
 
 
@@ -119,7 +136,8 @@ class Interface(unittest.TestCase):
 
     def test_number_of_functions(self):
         many = {place: len(listed(text)) for place, text in INTERFACE.items()}
-        self.assertEqual(many, {"nets": 22, "texts": 6, "plans": 12, "cuts": 12, "covers": 16, "fulls": 19, "trades": 12, "rights": 15, "rows": 10, "spreads": 8, "wishes": 15, "promises": 11, "works": 12})
+        self.assertEqual(many, {"nets": 22, "texts": 6, "plans": 12, "cuts": 12, "covers": 16, "fulls": 19, "trades": 12, "rights": 15, "rows": 10, "spreads": 8, "wishes": 15, "promises": 11, "works": 12,
+                                "betters": 14, "weather": 13, "days": 15})
 
 
 class Errors(unittest.TestCase):
