@@ -40,11 +40,14 @@ def is_hour(thing, hours):
     return is_from(thing, 0) and thing < hours
 
 
+def is_set_of_numbers(thing):
+    """Whether thing is an ascending tuple of numbers from 0."""
+    return isinstance(thing, tuple) and all([is_from(part, 0) for part in thing]) and climbs(thing)
+
+
 def is_set_of_hours(thing, hours):
     """Whether thing is an ascending tuple of some of so many hours."""
-    if not isinstance(thing, tuple):
-        return False
-    return all([is_hour(part, hours) for part in thing]) and climbs(thing)
+    return is_set_of_numbers(thing) and all([part < hours for part in thing])
 
 
 def is_set_of(thing, names):

@@ -49,7 +49,7 @@ def least_behind(net, arrivals, most, ahead, some):
     """The pair of the least by which the COVER of some is above that of those ahead, and of what stays out then.
 
     Of what is far in a CUT for some as much stays out as can: each unit makes
-    its value less by one, and the COVER of those ahead by one at the most.
+    its value less by one, and the COVER of those ahead only where it must.
     """
     base = cover_of(net, arrivals, ahead)
     rows = floods(net, arrivals, ahead, some)
@@ -63,16 +63,16 @@ def lowered(arrivals, spot, amount):
 
 
 def weather_out(net, arrivals, most, out, ahead):
-    """The WEATHER in which as much of out stays out as can, and the COVER of those ahead stays as great as can be."""
+    """The WEATHER in which as much of out stays out as can, but nothing by which the COVER of those ahead is less.
+
+    What they would feel makes the COVER of them and one more less by as much
+    at the most: so the share of that one would not become less.
+    """
     rest = min(most, plenty_of(out))
     for spot in [row[:2] for row in out]:
         here = arrives(arrivals, spot[0], spot[1])
         wanted = cover_of(net, arrivals, ahead) - cover_of(net, lowered(arrivals, spot, here), ahead)
         amount = min(rest, here - wanted)
-        arrivals = lowered(arrivals, spot, amount)
-        rest -= amount
-    for spot in [row[:2] for row in out]:
-        amount = min(rest, arrives(arrivals, spot[0], spot[1]))
         arrivals = lowered(arrivals, spot, amount)
         rest -= amount
     return arrivals

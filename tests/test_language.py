@@ -15,12 +15,18 @@ METHODS = set("""append clear count endswith extend find get index insert isalnu
     ljust lower lstrip partition pop remove replace reverse rfind rjust rpartition rsplit rstrip setdefault split splitlines
     startswith strip update upper values zfill""".split())
 STATEMENTS = (ast.Assign, ast.AugAssign, ast.If, ast.While, ast.For, ast.Return, ast.Break, ast.Continue, ast.Pass, ast.Raise, ast.Expr,
-              ast.FunctionDef, ast.ClassDef, ast.ImportFrom)
+              ast.FunctionDef, ast.ClassDef, ast.ImportFrom, ast.Try)
+DUNDERS = ("__init__", "__eq__", "__len__", "__contains__", "__getitem__", "__iter__")
+HANDED = ("asker", "answer")  # what is handed in, or read from a table, and called then
 BARRED = """typing typing_extensions enum Enum IntEnum StrEnum Flag IntFlag Generic Protocol ABC ABCMeta namedtuple NamedTuple
     TypedDict TYPE_CHECKING abstractmethod type dataclass overload contextmanager metaclass Meta""".split()
 UNUSED = """register mro elements open input law version_info with_traceback add_note attrgetter breakpoint builtins compile copyright
     credits delattr dir eval exec exit gc getattr globals hasattr help id importlib license locals methodcaller os quit setattr super
     type vars sys""".split()
+
+
+with open(os.path.join(PACKAGE, "errors.py")) as errors_file:
+    OWN_ERRORS = [node.name for node in ast.parse(errors_file.read()).body if isinstance(node, ast.ClassDef)]
 
 
 def sources():
@@ -109,7 +115,12 @@ class Words(unittest.TestCase):
                         if isinstance(sign, (ast.Is, ast.IsNot)):
                             self.assertIsInstance(right, ast.Constant, (name, node.lineno))
                 if isinstance(node, ast.FunctionDef):
-                    self.assertEqual((node.decorator_list, node.args.defaults, node.args.vararg, node.args.kwarg), ([], [], None, None))
+                    self.assertIn([ast.unparse(part) for part in node.decorator_list], ([], ["property"]))
+                    self.assertEqual((node.args.defaults, node.args.vararg, node.args.kwarg), ([], None, None))
+                if isinstance(node, ast.Try):
+                    self.assertEqual((node.orelse, node.finalbody), ([], []))
+                    for handler in node.handlers:
+                        self.assertTrue(isinstance(handler.type, ast.Name) and handler.type.id in OWN_ERRORS and handler.name is None, (name, node.lineno))
                 if isinstance(node, ast.BinOp) and isinstance(node.op, ast.Pow):
                     self.assertTrue(isinstance(node.right, ast.Constant) and 0 <= node.right.value <= 64)
 
@@ -133,14 +144,16 @@ class Words(unittest.TestCase):
                         self.assertNotIn(word, UNUSED, (name, node.name))
                     self.assertFalse(node.name in TAKEN or node.name in UNUSED, (name, node.name))
                 elif isinstance(node, ast.Attribute):
-                    self.assertFalse(node.attr.startswith("_") and node.attr != "__init__", (name, node.attr))
+                    own = isinstance(node.value, ast.Name) and node.value.id in ("self", "other")
+                    self.assertFalse(node.attr.startswith("_") and not own, (name, node.attr))
+                    self.assertFalse(node.attr.startswith("__"), (name, node.attr))
 
     def test_calls(self):
         own = {node.name for _, _, tree in sources() for node in ast.walk(tree) if isinstance(node, (ast.FunctionDef, ast.ClassDef))}
         for name, _, tree in sources():
             for node in ast.walk(tree):
                 if isinstance(node, ast.Call) and isinstance(node.func, ast.Name):
-                    self.assertIn(node.func.id, FUNCTIONS | own, (name, node.lineno))
+                    self.assertTrue(node.func.id in FUNCTIONS | own or node.func.id in HANDED, (name, node.lineno, node.func.id))
                     self.assertTrue(all(part.arg in ("key", "reverse", "default") for part in node.keywords), (name, node.lineno))
                 elif isinstance(node, ast.Call):
                     self.assertIn(node.func.attr, METHODS | own, (name, node.lineno))
@@ -151,7 +164,7 @@ class Words(unittest.TestCase):
         for name, _, tree in sources():
             inside = []
             for node in ast.walk(tree):
-                if isinstance(node, ast.Call) and isinstance(node.func, ast.Name) and node.func.id in ("sorted", "list", "enumerate"):
+                if isinstance(node, ast.Call) and isinstance(node.func, ast.Name) and node.func.id in ("sorted", "list", "enumerate", "tuple"):
                     inside.extend(node.args)
                 elif isinstance(node, (ast.For, ast.comprehension)):
                     inside.append(node.iter)
@@ -175,6 +188,47 @@ class Words(unittest.TestCase):
                             self.assertFalse(changes and ast.unparse(part.func.value) in over, (name, node.lineno))
                         if isinstance(part, ast.Subscript) and isinstance(part.ctx, ast.Store):
                             self.assertNotIn(ast.unparse(part.value), over, (name, node.lineno))
+
+
+class Classes(unittest.TestCase):
+    def classes(self):
+        for name, _, tree in sources():
+            for node in tree.body:
+                if isinstance(node, ast.ClassDef):
+                    body = node.body[1:]
+                    self.assertTrue(ast.get_docstring(node) and all(isinstance(part, ast.FunctionDef) for part in body), (name, node.name))
+                    yield name, node.name, body
+
+    def test_methods(self):
+        for name, word, body in self.classes():
+            methods = [part.name for part in body]
+            self.assertEqual(len(methods), len(set(methods)))
+            for part in body:
+                self.assertTrue(part.name in DUNDERS or not part.name.startswith("__"), part.name)
+                self.assertEqual(part.args.args[0].arg, "self")
+                if part.name == "__iter__":
+                    self.assertEqual([type(row) for row in part.body[1:]], [ast.Raise])
+                if part.name == "__len__":
+                    self.assertTrue(ast.unparse(part.body[1]).startswith("return len("))
+            self.assertTrue("__getitem__" not in methods or "__iter__" in methods)
+
+    def test_what_changes_nothing(self):
+        """Properties and double-underscore methods but __init__ assign nothing to attributes, and call nothing but what only looks."""
+        for name, word, body in self.classes():
+            for part in body:
+                if part.name in DUNDERS[1:] or part.decorator_list:
+                    for node in ast.walk(part):
+                        self.assertFalse(isinstance(node, ast.Attribute) and isinstance(node.ctx, ast.Store), (name, part.name))
+                        if isinstance(node, ast.Call):
+                            self.assertIn(node.func.id, ["len", "tuple", "sorted", "isinstance", "TypeError"] + OWN_ERRORS, (name, part.name))
+
+    def test_names_of_properties(self):
+        """They are the names of no methods and no attributes."""
+        properties = {part.name for _, _, body in self.classes() for part in body if part.decorator_list}
+        methods = {part.name for _, _, body in self.classes() for part in body if not part.decorator_list}
+        stored = {node.attr for _, _, tree in sources() for node in ast.walk(tree) if isinstance(node, ast.Attribute) and isinstance(node.ctx, ast.Store)}
+        self.assertEqual((properties & methods, properties & stored, methods & stored), (set(), set(), set()))
+        self.assertEqual(properties, {"many", "most", "asked", "left", "table", "net", "arrivals", "told", "names", "deeds"})
 
 
 if __name__ == "__main__":
