@@ -6,7 +6,12 @@ import inspect
 import unittest
 
 from helpers import as_lists
-from test_interface import INTERFACE, listed
+from test_interface import CLASSES, INTERFACE, listed
+
+from freightrights.board import Board
+from freightrights.hidden import Asking
+from freightrights.nets import net_text
+from freightrights.watches import Watch
 
 NET = (3, (("a", 1), ("b", 0)), (("x", "a", "b", 1, 4), ("y", "a", "b", 0, 1)), (("m", "b", (1, 2)), ("n", "a", (0, 2))))
 GOODS = (("a", 0, 5), ("b", 2, 1))
@@ -17,6 +22,13 @@ DONE = ((("x", 0, 3),), (("n", 0, 1),))
 
 TIED = (3, NET[1], NET[2], (("m", "b", (1, 2)), ("n", "a", (0, 1))))
 
+READINGS = (((1, 1), True), ((2, 0), False))
+
+
+def asker(taking):
+    return taking[0] <= 1 and sum(taking) <= 2
+
+
 WORTHS = {
     "net": NET, "arrivals": GOODS, "plan": PLAN, "far": FAR, "yard": "a", "line": "x", "customer": "m", "hour": 1,
     "customers": ("m", "n"), "room": 3, "most": 2, "start": "b", "goal": "a", "late": 1, "hours": (0, 2), "names": ("b", "a"),
@@ -25,6 +37,7 @@ WORTHS = {
     "trade": ("n", "m", 1), "giver": "n", "taker": "m", "prices": (2, -1), "row": ("n", "m", "m", "n", "m"), "place": 1, "level": 1,
     "classes": (("n",), (), ("m",)), "told": (4, 2), "number": 2, "done": DONE, "real": (("a", 0, 5), ("b", 2, 2)), "when": 2,
     "site": ("line", "x"), "sites": (("line", "x"), ("yard", "b")), "cut": FAR, "yards": ("a",),
+    "many": 2, "table": (0, 3, 3, 2), "readings": READINGS, "asker": asker, "edit": ("arrive", "a", 1, 2),
     "new": NEW, "coming": (("a", 0, 4), ("b", 2, 1)),
 }
 SPECIAL = {
@@ -42,6 +55,8 @@ SPECIAL = {
     ("is_narrow_without", "wishes"): (9, 9), ("breaking", "taking"): (5, 1), ("is_breaking", "taking"): (5, 1),
     **{(name, part): worth for name in ("tie", "is_tie", "two_arrivals", "are_two_arrivals", "tied", "in_time") for part, worth in
        (("net", TIED), ("customer", "n"), ("rank", ("m", "n")), ("yards", ("a", "b")))},
+    ("cover_range", "some"): (1,), ("do_commute", "one"): ("hours", "m", (0, 2)), ("do_commute", "other"): ("stand", "n", "b"),
+    ("answers", "text"): "net one " + net_text(NET) + "\nnames\narrive one a 0 5\nrank one n m\nundo\nundo\nundo", ("told_of", "taking"): (1, 0),
     ("net_from", "text"): "hours 2; yard a 1; yard b 0; line x a b 1 2; customer m b 0 1; customer n a",
     **{(name, part): worth for name in ("units_between", "trade_row", "is_trade_row") for part, worth in (("one", (6, 0)), ("other", (1, 2)))},
     **{(name, part): worth for name in ("over", "telling_level") for part, worth in (("one", (6, 0)), ("other", (3, 3)))},
@@ -56,12 +71,14 @@ THINGS = {
     "is_narrow_without": (("m", "n"), (("a", 0), ("a", 1), ("a", 2), ("b", 0), ("b", 1), ("b", 2))), "is_weather": (("a", 0, 3), ("b", 2, 1)),
     "is_dry_weather": (("a", 0, 4),), "is_breaking": ((("a", 0, 3), ("b", 2, 1)), ("m",)), "is_worst_weather": (("a", 0, 5),),
     "is_tie": ("n", ("a", 0), "m", ("a", 2)), "are_two_arrivals": ((1, 1), (("a", 0, 1),), (("a", 0, 1), ("b", 2, 1))),
+    "is_table": (0, 2, 3, 2), "is_readings": READINGS, "is_open_taking": (0, 2), "is_edit": ("most", "x", 1),
     "is_next_hour": ((), (("m", 1, 3),)), "is_losing_rank": ("m", "n"),
 }
 
-LISTED = ("ranks_in_time", "narrowest_cuts", "all_takings", "full_sets", "trades_from", "all_least")
+LISTED = ("answers", "all_tables", "tables_with", "ranks_in_time", "narrowest_cuts", "all_takings", "full_sets", "trades_from", "all_least")
 TRUTHS = """can_be is_whole are_apart same_covers can_give always_full both_full is_best is_corner lead_alike is_outcome is_least can_take_from
-    can_go_on never_harms is_full can_go surely_can_be in_time all_in_time always_in_time""".split()
+    can_go_on never_harms is_full can_go surely_can_be in_time all_in_time always_in_time
+    allows goes_with told_of do_commute""".split()
 
 
 def calls():
@@ -156,6 +173,107 @@ class Calls(unittest.TestCase):
                 self.assertIsInstance(call(**told), bool, name)
                 if "thing" in told:
                     self.assertIs(call(**dict(told, thing=as_lists(told["thing"]))), False, name)
+
+
+def asking():
+    made = Asking(2, 2)
+    made.tell(True)
+    return made
+
+
+def watch():
+    made = Watch(NET, GOODS)
+    made.do(("most", "x", 2))
+    made.do(("arrive", "b", 1, 2))
+    return made
+
+
+def board():
+    made = Board()
+    made.put("one", NET, GOODS)
+    made.put("two", NEW, GOODS)
+    return made
+
+
+MADE = {"Asking": asking, "Watch": watch, "Board": board}
+TOLD = {
+    "Asking": {"answer": False}, "Watch": {"edit": ("hours", "m", (0, 1)), "place": 0, "some": ("m",), "taking": (9, 0), "rank": ("n", "m")},
+    "Board": {"name": "one", "new": "new", "net": NET, "arrivals": GOODS, "edit": ("hours", "m", (0, 1)), "pairs": (("m", 2), ("n", 1))},
+}
+
+
+def seen(made):
+    """All that is to be seen of an object by its properties."""
+    found = [getattr(made, name) for name in vars(type(made)) if isinstance(vars(type(made))[name], property)]
+    if isinstance(made, Board):
+        found += [(name, made[name]) for name in made.names]
+    return found
+
+
+class Methods(unittest.TestCase):
+    def methods(self):
+        """For each method of the interface the class, the name, and arguments by name."""
+        for (_, word), (_, _, methods) in CLASSES.items():
+            for name, parameters in listed(methods):
+                told = {part: TOLD[word][part] for part in parameters if part and not name.startswith("__")}
+                if name == "put":
+                    told["name"] = "new"
+                if not name.startswith("__"):
+                    yield word, name, told
+
+    def answer(self, word, name, told, by_name=True):
+        """What a method returns, and what is to be seen of its object then."""
+        made = MADE[word]()
+        call = getattr(made, name)
+        answer = call(**told) if by_name else call(*told.values())
+        return (seen(answer) if name == "twin" else answer), seen(made)
+
+    def test_by_place_by_name_with_lists(self):
+        many = 0
+        for word, name, told in self.methods():
+            with self.subTest(word=word, name=name):
+                right = repr(self.answer(word, name, told))
+                for other in (told, in_lists(told), in_lists(told, True)):
+                    kept = repr(other)
+                    self.assertEqual(repr(self.answer(word, name, other)), right)
+                    self.assertEqual(repr(self.answer(word, name, other, False)), right)
+                    self.assertEqual(repr(other), kept)
+                many += 1
+        self.assertEqual(many, 3 + 10 + 10)
+
+    def test_deeds_return_nothing(self):
+        for word, name, told in self.methods():
+            changes = name in ("tell", "undo", "do", "back", "back_alone", "put", "drop", "rename", "edit")
+            made = MADE[word]()
+            answer = getattr(made, name)(**told)
+            self.assertEqual((answer is None, made == MADE[word]()), (changes, not changes), (word, name))
+            self.assertFalse(has_list(answer))
+
+    def test_built_by_place_by_name_with_lists(self):
+        self.assertEqual(Asking(2, 3), Asking(most=3, many=2))
+        self.assertEqual(Watch(NET, GOODS), Watch(arrivals=as_lists(GOODS), net=as_lists(NET)))
+        self.assertEqual(repr(seen(Watch(NET, GOODS))), repr(seen(Watch(as_lists(NET), as_lists(GOODS)))))
+
+    def test_arguments_may_change_later(self):
+        for word, name, told in self.methods():
+            made, other = MADE[word](), in_lists(told)
+            getattr(made, name)(**other)
+            kept = repr(seen(made))
+            for worth in other.values():
+                if isinstance(worth, list):
+                    worth.clear()
+            self.assertEqual(repr(seen(made)), kept)
+
+    def test_the_same_again(self):
+        for word, name, told in self.methods():
+            made = MADE[word]()
+            if name in ("next_taking", "cover", "can_be", "by_rank", "grown", "first_not", "least_cover", "with_customer", "where_can", "alike", "at_least"):
+                self.assertEqual(repr(getattr(made, name)(**told)), repr(getattr(made, name)(**told)))
+            self.assertEqual(repr(seen(made)), repr(seen(made)))
+
+    def test_no_lists_are_seen(self):
+        for word in MADE:
+            self.assertFalse(has_list(tuple(seen(MADE[word]()))))
 
 
 if __name__ == "__main__":

@@ -107,6 +107,22 @@ INTERFACE = {
         rank), always_in_time(net, yards, customer), two_arrivals(net, yards, rank, customer), are_two_arrivals(net,
         yards, rank, customer, thing), how_many_in_time(net, yards), rank_in_time(net, yards), ranks_in_time(net,
         yards)""",
+    "hidden": """sets_of_places(many), is_table(many, thing), table_of(net, arrivals), net_for(many, table), allows(many,
+        table, taking), all_tables(many, most), is_readings(many, thing), goes_with(many, table, readings),
+        tables_with(many, most, readings), first_clash(many, most, readings), told_of(many, most, readings, taking),
+        cover_range(many, most, readings, some), open_taking(many, most, readings), is_open_taking(many, most,
+        readings, thing), covers_told(many, most, asker)""",
+    "watches": """is_edit(thing), edited(net, arrivals, edit), undone_by(net, arrivals, edit), do_commute(net, arrivals, one,
+        other)""",
+    "desk": """answers(text)""",
+}
+
+CLASSES = {
+    ("hidden", "Asking"): ("many, most", "many most asked left table", "next_taking(), tell(answer), undo(), __eq__(other)"),
+    ("watches", "Watch"): ("net, arrivals", "net arrivals told", """do(edit), back(), back_alone(place), twin(), cover(some), can_be(taking), by_rank(rank),
+        grown(), first_not(taking), least_cover(some), __len__(), __eq__(other)"""),
+    ("board", "Board"): ("", "names deeds", """put(name, net, arrivals), drop(name), rename(name, new), edit(name, edit), undo(), twin(), with_customer(name),
+        where_can(pairs), alike(), at_least(name), __len__(), __contains__(name), __getitem__(name), __eq__(other)"""),
 }
 
 
@@ -137,7 +153,29 @@ class Interface(unittest.TestCase):
     def test_number_of_functions(self):
         many = {place: len(listed(text)) for place, text in INTERFACE.items()}
         self.assertEqual(many, {"nets": 22, "texts": 6, "plans": 12, "cuts": 12, "covers": 16, "fulls": 19, "trades": 12, "rights": 15, "rows": 10, "spreads": 8, "wishes": 15, "promises": 11, "works": 12,
-                                "betters": 14, "weather": 13, "days": 15})
+                                "betters": 14, "weather": 13, "days": 15, "hidden": 15, "watches": 4, "desk": 1})
+
+    def test_classes(self):
+        for (place, word), (handed, properties, methods) in CLASSES.items():
+            module = importlib.import_module("freightrights." + place)
+            with open(os.path.join(ROOT, "freightrights", place + ".py")) as file:
+                self.assertIn(word, [node.name for node in ast.parse(file.read()).body if isinstance(node, ast.ClassDef)])
+            found = getattr(module, word)
+            self.assertEqual(found.__bases__, (object,))
+            self.assertEqual(list(inspect.signature(found).parameters), handed.split(", ") if handed else [])
+            for name in properties.split():
+                self.assertIsInstance(vars(found)[name], property)
+                self.assertIsNone(vars(found)[name].fset)
+            for name, parameters in listed(methods):
+                told = list(inspect.signature(vars(found)[name]).parameters.values())
+                self.assertEqual([part.name for part in told], ["self"] + [part for part in parameters if part], name)
+                self.assertTrue(all(part.kind == part.POSITIONAL_OR_KEYWORD and part.default is part.empty for part in told))
+
+    def test_files(self):
+        """Each file of the document's interface is there, and holds something that the tests above look at."""
+        named = {place for place, _ in CLASSES} | set(INTERFACE) | {"errors"}
+        self.assertEqual(len(named), 21)
+        self.assertLessEqual({name + ".py" for name in named}, set(os.listdir(os.path.join(ROOT, "freightrights"))))
 
 
 class Errors(unittest.TestCase):
