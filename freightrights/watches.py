@@ -12,13 +12,11 @@ from freightrights.works import gainers, losers
 
 def is_edit(thing):
     """Whether thing has the form of an EDIT."""
-    if not isinstance(thing, tuple) or len(thing) < 3 or not isinstance(thing[0], str) or not isinstance(thing[1], str):
+    if not isinstance(thing, tuple) or len(thing) not in (3, 4) or not isinstance(thing[1], str):
         return False
     word, last = thing[0], thing[-1]
-    if word == "arrive":
-        return len(thing) == 4 and is_from(thing[2], 0) and is_from(last, 0)
-    if len(thing) != 3:
-        return False
+    if len(thing) == 4:
+        return word == "arrive" and is_from(thing[2], 0) and is_from(last, 0)
     if word == "hours":
         return is_set_of_numbers(last)
     if word == "stand":

@@ -64,13 +64,12 @@ def worth_in(form, word):
 
 def request_in(line):
     """The request that is written so, its first word and what the others stand for; None if it is not so written."""
-    words = line.split(" ")
-    if words[0] not in FORMS:
+    word = line.partition(" ")[0]
+    if word not in FORMS:
         return None
-    forms = FORMS[words[0]]
-    if forms and forms[-1] not in ("name", "number"):
-        words = words[:len(forms)] + [" ".join(words[len(forms):])]
-    if len(words) != len(forms) + 1:
+    forms = FORMS[word]
+    words = line.split(" ", len(forms))
+    if words[0] != word or len(words) != len(forms) + 1:
         return None
-    found = [worth_in(form, word) for form, word in zip(forms, words[1:])]
-    return None if None in found else (words[0],) + tuple(found)
+    found = [worth_in(form, part) for form, part in zip(forms, words[1:])]
+    return None if None in found else (word,) + tuple(found)
