@@ -49,8 +49,8 @@ class Board:
             raise NoNet(name)
         return self._nets[name]
 
+    # Without this a loop would ask for board[0], board[1] and so on.
     def __iter__(self):
-        """A Board is not gone through."""
         raise TypeError("a Board is not gone through")
 
     def __eq__(self, other):

@@ -2,16 +2,17 @@
 
 import random
 import unittest
-from itertools import combinations
+from itertools import combinations, product
 
 from helpers import STRANGE, all_spots, as_lists, chance_net, check_raises, cover_book, cuts_with_values, fits, great_nets, lively_great, lively_nets
-from helpers import parts, people, some_wishes, total_of, value
+from helpers import parts, people, ranks, some_wishes, total_of, value
 
 from freightrights.betters import can_go, gone_by_turns, helpers_alone, idle_by, idle_sites, is_narrow_without, least_kept, most_gone
 from freightrights.betters import narrow_without, need_alone, site_most, uses_of, who_feels, with_site
-from freightrights.covers import can_be, covers, same_covers
+from freightrights.covers import all_takings, can_be, covers, same_covers
 from freightrights.errors import NoLine, NoYard
 from freightrights.nets import is_net, line_of, room_of
+from freightrights.rights import by_rank_wished
 
 NET = (3, (("d", 0), ("m", 1)), (("q", "m", "d", 1, 5), ("r", "m", "d", 0, 2)), (("x", "d", (0, 1, 2)), ("y", "m", (1,))))
 GOODS = (("m", 0, 3),)
@@ -312,6 +313,24 @@ class Going(unittest.TestCase):
             gone = gone_by_turns(net, arrivals, sites_of(net))
             for some in parts(gone):
                 self.assertTrue(can_go(net, arrivals, some))
+
+    def test_same_covers_same_rights(self):
+        """SITES can go exactly if the same TAKINGS can be, and exactly if by each RANK with all WISHES all get the same."""
+        found = {True: 0, False: 0}
+        for net, arrivals, book in lively_nets(11970, 40, 3, 7):
+            chance = random.Random(repr(net))
+            if max(book.values()) > 6:
+                continue
+            for sites in [tuple(sorted(chance.sample(sites_of(net), min(many, len(sites_of(net)))))) for many in (1, 1, 2)]:
+                new = set_all(net, sites)
+                go = can_go(net, arrivals, sites)
+                found[go] += 1
+                self.assertEqual(all_takings(net, arrivals) == all_takings(new, arrivals), go)
+                wishes = list(product(*[range(book[(name,)] + 1) for name in people(net)]))
+                pairs = [(rank, row) for rank in ranks(net) for row in wishes[::3] + wishes[-1:]]
+                same = [by_rank_wished(net, arrivals, row, rank) == by_rank_wished(new, arrivals, row, rank) for rank, row in pairs]
+                self.assertEqual(all(same), go)
+        self.assertTrue(min(found.values()) > 10, found)
 
 
 class Edges(unittest.TestCase):

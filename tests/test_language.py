@@ -66,7 +66,7 @@ class Files(unittest.TestCase):
             for node in ast.walk(tree):
                 if isinstance(node, ast.FunctionDef):
                     self.assertLessEqual(node.end_lineno - node.lineno + 1, 40, (name, node.name))
-                    self.assertIsNotNone(ast.get_docstring(node) or node.name == "__init__" or None, (name, node.name))
+                    self.assertIsNotNone(ast.get_docstring(node) or node.name in ("__init__", "__iter__") or None, (name, node.name))
 
     def test_imports(self):
         heads = {}
@@ -207,7 +207,8 @@ class Classes(unittest.TestCase):
                 self.assertTrue(part.name in DUNDERS or not part.name.startswith("__"), part.name)
                 self.assertEqual(part.args.args[0].arg, "self")
                 if part.name == "__iter__":
-                    self.assertEqual([type(row) for row in part.body[1:]], [ast.Raise])
+                    self.assertEqual(len(part.body), 1)
+                    self.assertRegex(ast.unparse(part.body[0]), r"^raise TypeError\('[^']*'\)$")
                 if part.name == "__len__":
                     self.assertTrue(ast.unparse(part.body[1]).startswith("return len("))
             self.assertTrue("__getitem__" not in methods or "__iter__" in methods)

@@ -153,7 +153,7 @@ class Places(unittest.TestCase):
             for name in people(net):
                 for _ in range(4):
                     wishes = list(some_wishes(chance, net, book))
-                    wishes[people(net).index(name)] = GREAT
+                    wishes[people(net).index(name)] = 10 ** 40
                     got = own(net, by_rank_wished(net, arrivals, wishes, chance.choice(ranks(net))), name)
                     self.assertTrue(sure_share(net, arrivals, name) <= got <= most_share(net, arrivals, name))
 

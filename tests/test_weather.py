@@ -266,6 +266,23 @@ class Shares(unittest.TestCase):
                 self.assertEqual(fewest_out_for(net, arrivals, rank, name, number), min(outs) if outs else None)
             self.assertEqual(fewest_out_for(as_lists(net), as_lists(arrivals), list(rank), name, GREAT), 0)
 
+    def test_by_cuts(self):
+        """The least, over the CUTS for it and those ahead, of the greater one of two numbers."""
+        for net, arrivals, _ in lively_nets(12750, 12, 3, 6):
+            arrivals = arrivals[:4]
+            goods = {row[:2]: row[2] for row in arrivals}
+            for rank in ranks(net)[:3]:
+                for most in (0, 1, 3, 6):
+                    right = {}
+                    for at, name in enumerate(rank):
+                        rows = []
+                        for far, number in cuts_with_values(net, arrivals, rank[:at + 1]):
+                            rest = tuple(row for row in arrivals if row[:2] not in far)
+                            dry = number - sum(goods.get(spot, 0) for spot in far) - cover(net, rest, rank[:at])
+                            rows.append(max(number - most - cover(net, arrivals, rank[:at]), dry))
+                        right[name] = min(rows)
+                    self.assertEqual(sure_shares(net, arrivals, most, rank), tuple(right[name] for name in people(net)))
+
     def test_last_is_worst(self):
         for net, arrivals, books in weather_nets(12800, 12):
             for at, name in enumerate(people(net)):
